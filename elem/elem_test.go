@@ -1,48 +1,23 @@
 package elem
 
 import (
-	"math"
 	"slices"
 	"testing"
 
 	"fuller/api"
 	"fuller/fix"
+	"fuller/sample"
 	"fuller/shape"
 	"fuller/tensor"
 )
 
 const (
 	one   = api.One
-	least = math.MinInt
-	most  = math.MaxInt
+	least = sample.Least
+	most  = sample.Most
 )
 
-// of is a tensor of a shape.
-func of(s []int, data ...int) api.Tensor {
-	return api.Tensor{Shape: s, Data: data}
-}
-
-// row is a tensor of one side.
-func row(data ...int) api.Tensor {
-	return of([]int{len(data)}, data...)
-}
-
-// filled is the tensor of s whose numbers are those of a list, gone through again and again.
-func filled(s []int, numbers ...int) api.Tensor {
-	t := of(s)
-	for place := range shape.Size(s) {
-		t.Data = append(t.Data, numbers[place%len(numbers)])
-	}
-	return t
-}
-
-// check holds an answer against what it is to be.
-func check(t *testing.T, call string, got api.Tensor, err api.Errno, want api.Tensor, wantErr api.Errno) {
-	t.Helper()
-	if !slices.Equal(got.Shape, want.Shape) || !slices.Equal(got.Data, want.Data) || err != wantErr {
-		t.Errorf("%s: %v, %d; want %v, %d", call, got, err, want, wantErr)
-	}
-}
+var of, row, filled, check = sample.Of, sample.Row, sample.Filled, sample.Check
 
 type (
 	alone func(a int) (int, api.Errno)
@@ -93,17 +68,6 @@ func shapes() [][]int {
 		nil, {1}, {2}, {3}, {5}, {16},
 		{1, 1}, {1, 2}, {2, 1}, {1, 3}, {3, 1}, {2, 3}, {3, 2}, {1, 5}, {16, 1}, {16, 4}, {5, 12},
 		{1, 1, 1}, {2, 1, 1}, {1, 2, 1}, {1, 1, 2}, {2, 3, 1}, {2, 1, 3}, {1, 2, 3}, {2, 3, 2}, {5, 1, 3}, {4, 1, 16}, {4, 4, 4},
-	}
-}
-
-// wrongTensors may not be: too few numbers, or too many, or a shape that may not be.
-func wrongTensors() []api.Tensor {
-	return []api.Tensor{
-		{}, of([]int{}), of(nil, 1, 2), of([]int{1}), of([]int{1}, 1, 2), of([]int{2}, 1), of([]int{2}, 1, 2, 3),
-		of([]int{2, 3}, 1, 2, 3, 4, 5), of([]int{2, 3}, 1, 2, 3, 4, 5, 6, 7),
-		of([]int{4, 4, 4}, make([]int, 63)...), of([]int{4, 4, 4}, make([]int, 65)...),
-		of([]int{0}), of([]int{2, 0}), of([]int{-1}, 1), of([]int{-1, -1}, 1), of([]int{17}, make([]int, 17)...),
-		of([]int{5, 13}, make([]int, 65)...), of([]int{1, 1, 1, 1}, 1), of([]int{1 << 32, 1 << 32}), of([]int{least}), of([]int{most}, 1),
 	}
 }
 
@@ -180,7 +144,7 @@ func TestOneAll(t *testing.T) {
 
 // P4.1, P4.2: an op that may not be is told ahead of all else; One takes none of Two's, nor Two of One's.
 func TestOpWrong(t *testing.T) {
-	tensors := append(wrongTensors(), of(nil, 1), row(1, 2), row(1, 2, 3), row(-1, least, most), row(0, 0))
+	tensors := append(sample.WrongTensors(), of(nil, 1), row(1, 2), row(1, 2, 3), row(-1, least, most), row(0, 0))
 	for _, op := range ops() {
 		for _, x := range tensors {
 			if ones()[op] == nil {
@@ -200,13 +164,13 @@ func TestOpWrong(t *testing.T) {
 
 // P4.1, P4.2: a tensor that may not be, which is told ahead of shapes, and of numbers.
 func TestTensorWrong(t *testing.T) {
-	for _, x := range wrongTensors() {
+	for _, x := range sample.WrongTensors() {
 		for op := range ones() {
 			got, err := One(op, x)
 			check(t, "One", got, err, api.Tensor{}, api.ErrTensor)
 		}
 		for op := range twos() {
-			for _, y := range append(wrongTensors(), of(nil, 0), row(1), row(1, 2, 3), row(least, most, 0, 0)) {
+			for _, y := range append(sample.WrongTensors(), of(nil, 0), row(1), row(1, 2, 3), row(least, most, 0, 0)) {
 				got, err := Two(op, x, y)
 				check(t, "Two", got, err, api.Tensor{}, api.ErrTensor)
 				got, err = Two(op, y, x)
@@ -398,23 +362,7 @@ func TestMemory(t *testing.T) {
 		{of([]int{2, 1}, 5, 6), func() (api.Tensor, api.Errno) { return Two(api.OMul, of(nil, one), x) }},
 		{of([]int{2, 2}, 4, 3, 5, 4), func() (api.Tensor, api.Errno) { return Two(api.OSub, x, row(1, 2)) }},
 	}
-	for range 2 {
-		for i, c := range calls {
-			got, err := c.answer()
-			check(t, "answer", got, err, c.want, api.OK)
-			overwrite(got.Shape)
-			check(t, "numbers", of(c.want.Shape, got.Data...), err, c.want, api.OK)
-			overwrite(got.Data)
-			if !slices.Equal(slices.Concat(sides, data), []int{2, 1, 7, 7, 5, 6, 8, 8}) {
-				t.Fatalf("behind call %d what was handed in is %v, %v", i, sides, data)
-			}
-		}
-	}
-}
-
-// overwrite fills a list and its spare room.
-func overwrite(l []int) {
-	for i := range l[:cap(l)] {
-		l[:cap(l)][i] = -9
+	for _, c := range calls {
+		sample.Apart(t, "answer", c.answer, c.want, sides, data)
 	}
 }

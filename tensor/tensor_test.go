@@ -1,92 +1,36 @@
 package tensor
 
 import (
-	"math"
 	"slices"
 	"testing"
 
 	"fuller/api"
 	"fuller/fix"
+	"fuller/sample"
 	"fuller/shape"
 )
 
 const (
-	least = math.MinInt
-	most  = math.MaxInt
+	least = sample.Least
+	most  = sample.Most
 )
 
-// of is a tensor of a shape.
-func of(s []int, data ...int) api.Tensor {
-	return api.Tensor{Shape: s, Data: data}
-}
+var of = sample.Of
 
 // counted is the tensor of s whose numbers are 10, 11, 12 ..
 func counted(s []int) api.Tensor {
-	t := of(s)
-	for place := range shape.Size(s) {
-		t.Data = append(t.Data, 10+place)
-	}
-	return t
-}
-
-func same(a, b api.Tensor) bool {
-	return slices.Equal(a.Shape, b.Shape) && slices.Equal(a.Data, b.Data)
+	return sample.Counted(s, 10)
 }
 
 // check holds an answer against what it is to be.
 func check(t *testing.T, got api.Tensor, err api.Errno, want api.Tensor, wantErr api.Errno) {
 	t.Helper()
-	if !same(got, want) || err != wantErr {
-		t.Errorf("%v, %d; want %v, %d", got, err, want, wantErr)
-	}
+	sample.Check(t, "answer", got, err, want, wantErr)
 }
 
-// shapes are all that may be, of some sides.
+// shapes are some of no side to three.
 func shapes() [][]int {
-	all, ahead := [][]int{nil}, [][]int{nil}
-	for range api.MaxDims {
-		var longer [][]int
-		for _, s := range ahead {
-			for _, side := range []int{1, 2, 3, 4, 16} {
-				longer = append(longer, append(slices.Clone(s), side))
-			}
-		}
-		ahead = longer
-		all = append(all, longer...)
-	}
-	return slices.DeleteFunc(all, func(s []int) bool { return !shape.Check(s) })
-}
-
-// wrongShapes may not be.
-func wrongShapes() [][]int {
-	return [][]int{
-		{0}, {-1}, {17}, {2, 0}, {-2, -2}, {5, 13}, {16, 16, 16}, {1, 1, 1, 1},
-		{1 << 32, 1 << 32}, {1 << 62, 4}, {least}, {most, most, 1},
-	}
-}
-
-// wrongTensors may not be.
-func wrongTensors() []api.Tensor {
-	all := []api.Tensor{
-		{}, of([]int{}), of(nil, 1, 2), of([]int{1}), of([]int{1}, 1, 2), of([]int{2}, 1), of([]int{2}, 1, 2, 3),
-		of([]int{2, 3}, 1, 2, 3, 4, 5), of([]int{2, 3}, 1, 2, 3, 4, 5, 6, 7),
-		of([]int{4, 4, 4}, make([]int, 63)...), of([]int{4, 4, 4}, make([]int, 65)...), of([]int{2}, make([]int, 100000)...),
-		of([]int{-1, -1}, 1), of([]int{5, 13}, make([]int, 65)...), of([]int{17}, make([]int, 17)...), of([]int{1, 1, 1, 1}, 1),
-	}
-	for _, s := range wrongShapes() {
-		all = append(all, of(s), of(s, 1))
-	}
-	return all
-}
-
-// indices are those of s, the least ahead.
-func indices(s []int) [][]int {
-	var all [][]int
-	for place := range shape.Size(s) {
-		index, _ := shape.Index(s, place)
-		all = append(all, index)
-	}
-	return all
+	return sample.Shapes(1, 2, 3, 4, 16)
 }
 
 // P3.1
@@ -96,7 +40,7 @@ func TestCheck(t *testing.T) {
 			t.Errorf("%v may not be", x)
 		}
 	}
-	for _, x := range wrongTensors() {
+	for _, x := range sample.WrongTensors() {
 		if Check(x) {
 			t.Errorf("a tensor of %v with %d numbers may be", x.Shape, len(x.Data))
 		}
@@ -115,7 +59,7 @@ func TestFull(t *testing.T) {
 			check(t, got, err, want, api.OK)
 		}
 	}
-	for _, s := range wrongShapes() {
+	for _, s := range sample.WrongShapes() {
 		got, err := Full(s, 5)
 		check(t, got, err, api.Tensor{}, api.ErrShape)
 	}
@@ -147,7 +91,7 @@ func TestAt(t *testing.T) {
 func TestEachIndex(t *testing.T) {
 	for _, s := range shapes() {
 		x := counted(s)
-		for place, index := range indices(s) {
+		for place, index := range sample.Indices(s) {
 			if n, err := At(x, index); n != 10+place || err != api.OK {
 				t.Errorf("At(%v, %v) is %d, %d; want %d, OK", x, index, n, err, 10+place)
 			}
@@ -180,7 +124,7 @@ func TestAtWrong(t *testing.T) {
 	} {
 		both(counted([]int{2, 3, 4}), index, api.ErrShape)
 	}
-	for _, x := range wrongTensors() {
+	for _, x := range sample.WrongTensors() {
 		both(x, make([]int, len(x.Shape)), api.ErrTensor)
 		both(x, nil, api.ErrTensor)
 		both(x, []int{-1}, api.ErrTensor)
@@ -279,7 +223,7 @@ func TestStretchWrong(t *testing.T) {
 	} {
 		both(counted(c[0]), counted(c[1]), api.ErrShape)
 	}
-	for _, s := range wrongShapes() {
+	for _, s := range sample.WrongShapes() {
 		for _, x := range []api.Tensor{of(nil, most), of([]int{1}, 2), of([]int{2}, most, most)} {
 			got, err := Spread(x, s)
 			check(t, got, err, api.Tensor{}, api.ErrShape)
@@ -287,8 +231,8 @@ func TestStretchWrong(t *testing.T) {
 			check(t, got, err, api.Tensor{}, api.ErrShape)
 		}
 	}
-	for _, x := range wrongTensors() {
-		for _, s := range append(wrongShapes(), nil, []int{2}, []int{3}, x.Shape) {
+	for _, x := range sample.WrongTensors() {
+		for _, s := range append(sample.WrongShapes(), nil, []int{2}, []int{3}, x.Shape) {
 			got, err := Spread(x, s)
 			check(t, got, err, api.Tensor{}, api.ErrTensor)
 			got, err = Fold(x, s)
@@ -316,7 +260,7 @@ func TestSpreadAll(t *testing.T) {
 			want, wantErr := api.Tensor{}, api.ErrShape
 			if shape.Fits(from, s) {
 				want, wantErr = of(s), api.OK
-				for _, index := range indices(s) {
+				for _, index := range sample.Indices(s) {
 					n, _ := At(x, cameFrom(from, index))
 					want.Data = append(want.Data, n)
 				}
@@ -350,9 +294,9 @@ func folded(x api.Tensor, s []int) (api.Tensor, api.Errno) {
 		return api.Tensor{}, api.ErrShape
 	}
 	want := of(s)
-	for _, to := range indices(s) {
+	for _, to := range sample.Indices(s) {
 		sum, err := 0, api.OK
-		for place, index := range indices(x.Shape) {
+		for place, index := range sample.Indices(x.Shape) {
 			if slices.Equal(cameFrom(s, index), to) {
 				sum, err = fix.Add(sum, x.Data[place])
 			}
@@ -416,20 +360,13 @@ func TestMemory(t *testing.T) {
 	for range 2 {
 		for i, got := range answers() {
 			check(t, got, api.OK, want[i], api.OK)
-			overwrite(got.Shape)
+			sample.Overwrite(got.Shape)
 			check(t, of(want[i].Shape, got.Data...), api.OK, want[i], api.OK)
-			overwrite(got.Data)
+			sample.Overwrite(got.Data)
 		}
 		handed := slices.Concat(room, numbers, wide, index)
 		if !slices.Equal(handed, []int{2, 1, 7, 7, 7, 5, 6, 8, 8, 8, 2, 3, 9, 9, 9, 1, 0, 6, 6}) {
 			t.Errorf("what was handed in is now %v", handed)
 		}
-	}
-}
-
-// overwrite fills a list and its spare room.
-func overwrite(l []int) {
-	for i := range l[:cap(l)] {
-		l[:cap(l)][i] = -9
 	}
 }

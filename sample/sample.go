@@ -1,0 +1,129 @@
+// Package sample has the shapes and tensors that the layers' tests are made of, and holds answers against each other.
+package sample
+
+import (
+	"math"
+	"slices"
+
+	"fuller/api"
+	"fuller/shape"
+)
+
+// Least and Most are the numbers at either end.
+const (
+	Least = math.MinInt
+	Most  = math.MaxInt
+)
+
+// Teller is what a test tells its faults by.
+type Teller interface {
+	Helper()
+	Errorf(format string, args ...any)
+}
+
+// Check holds what a call answered against what it is to be.
+func Check(t Teller, call string, got api.Tensor, err api.Errno, want api.Tensor, wantErr api.Errno) {
+	t.Helper()
+	if !slices.Equal(got.Shape, want.Shape) || !slices.Equal(got.Data, want.Data) || err != wantErr {
+		t.Errorf("%s: %v, %d; want %v, %d", call, got, err, want, wantErr)
+	}
+}
+
+// Of is a tensor of a shape.
+func Of(s []int, data ...int) api.Tensor {
+	return api.Tensor{Shape: s, Data: data}
+}
+
+// Row is a tensor of one side.
+func Row(data ...int) api.Tensor {
+	return Of([]int{len(data)}, data...)
+}
+
+// Filled is the tensor of s whose numbers are those of a list, gone through again and again.
+func Filled(s []int, numbers ...int) api.Tensor {
+	t := Of(s)
+	for place := range shape.Size(s) {
+		t.Data = append(t.Data, numbers[place%len(numbers)])
+	}
+	return t
+}
+
+// Counted is the tensor of s whose numbers rise by 1 from one on.
+func Counted(s []int, from int) api.Tensor {
+	t := Of(s)
+	for place := range shape.Size(s) {
+		t.Data = append(t.Data, from+place)
+	}
+	return t
+}
+
+// Shapes are all that may be, with sides as long as these.
+func Shapes(sides ...int) [][]int {
+	all, ahead := [][]int{nil}, [][]int{nil}
+	for range api.MaxDims {
+		var longer [][]int
+		for _, s := range ahead {
+			for _, side := range sides {
+				longer = append(longer, append(slices.Clone(s), side))
+			}
+		}
+		ahead = longer
+		all = append(all, longer...)
+	}
+	return slices.DeleteFunc(all, func(s []int) bool { return !shape.Check(s) })
+}
+
+// WrongShapes may not be: sides too short, or too long, or too many, or too many numbers, some of which wrap round.
+func WrongShapes() [][]int {
+	return [][]int{
+		{0}, {-1}, {17}, {64}, {2, 0}, {-1, -1}, {-2, -2}, {5, 13}, {16, 16, 16}, {1, 1, 1, 1}, {2, 1, 1, 1},
+		{1 << 32, 1 << 32}, {1 << 62, 4}, {Least}, {Most}, {Most, Most, 1},
+	}
+}
+
+// WrongTensors may not be: too few numbers, or too many, or a shape that may not be.
+func WrongTensors() []api.Tensor {
+	all := []api.Tensor{
+		{}, Of([]int{}), Of(nil, 1, 2), Of([]int{1}), Of([]int{1}, 1, 2), Of([]int{2}, 1), Of([]int{2}, 1, 2, 3),
+		Of([]int{2, 3}, 1, 2, 3, 4, 5), Of([]int{2, 3}, 1, 2, 3, 4, 5, 6, 7), Of([]int{2}, make([]int, 100000)...),
+		Of([]int{4, 4, 4}, make([]int, 63)...), Of([]int{4, 4, 4}, make([]int, 65)...),
+		Of([]int{17}, make([]int, 17)...), Of([]int{5, 13}, make([]int, 65)...),
+	}
+	for _, s := range WrongShapes() {
+		all = append(all, Of(s), Of(s, 1))
+	}
+	return all
+}
+
+// Indices are those of s, the least ahead.
+func Indices(s []int) [][]int {
+	var all [][]int
+	for place := range shape.Size(s) {
+		index, _ := shape.Index(s, place)
+		all = append(all, index)
+	}
+	return all
+}
+
+// Overwrite fills a list and its spare room, to find what else shares them.
+func Overwrite(l []int) {
+	for i := range l[:cap(l)] {
+		l[:cap(l)][i] = -9
+	}
+}
+
+// Apart holds that a call answers what it is to, again when its answer was written over, and that what was handed in is left as it was.
+func Apart(t Teller, call string, answer func() (api.Tensor, api.Errno), want api.Tensor, handed ...[]int) {
+	t.Helper()
+	before := slices.Concat(handed...)
+	for range 2 {
+		got, err := answer()
+		Check(t, call, got, err, want, api.OK)
+		Overwrite(got.Shape)
+		Check(t, call+", its shape written over", Of(want.Shape, got.Data...), err, want, api.OK)
+		Overwrite(got.Data)
+		if !slices.Equal(slices.Concat(handed...), before) {
+			t.Errorf("%s: what was handed in is now %v, not %v", call, handed, before)
+		}
+	}
+}

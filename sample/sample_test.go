@@ -1,0 +1,69 @@
+package sample
+
+import (
+	"slices"
+	"testing"
+
+	"fuller/api"
+	"fuller/tensor"
+)
+
+// counter counts faults.
+type counter struct{ faults int }
+
+func (c *counter) Helper() {}
+
+func (c *counter) Errorf(string, ...any) { c.faults++ }
+
+func TestCheck(t *testing.T) {
+	for _, c := range []struct {
+		got    api.Tensor
+		err    api.Errno
+		faults int
+	}{
+		{Of([]int{2}, 1, 2), api.OK, 0}, {Of([]int{2}, 1, 2), api.ErrOver, 1}, {Of([]int{2}, 1, 3), api.OK, 1},
+		{Of([]int{1, 2}, 1, 2), api.OK, 1}, {api.Tensor{}, api.OK, 1},
+	} {
+		var told counter
+		Check(&told, "call", c.got, c.err, Row(1, 2), api.OK)
+		if told.faults != c.faults {
+			t.Errorf("%v, %d: %d faults, not %d", c.got, c.err, told.faults, c.faults)
+		}
+	}
+}
+
+// Calls that answer new memory have no fault; those that share any, or write what they were handed, have some.
+func TestApart(t *testing.T) {
+	x := Of([]int{2, 1, 7}[:2], []int{5, 6, 7}[:2]...)
+	for i, c := range []struct {
+		answer func() (api.Tensor, api.Errno)
+		apart  bool
+	}{
+		{func() (api.Tensor, api.Errno) { return Of(slices.Clone(x.Shape), slices.Clone(x.Data)...), api.OK }, true},
+		{func() (api.Tensor, api.Errno) { return Of(slices.Clone(x.Shape), x.Data...), api.OK }, false},
+		{func() (api.Tensor, api.Errno) { return Of(x.Shape, slices.Clone(x.Data)...), api.OK }, false},
+		{func() (api.Tensor, api.Errno) { return Of([]int{2, 1}, append(x.Data[:1], 6, 9)[:2]...), api.OK }, false},
+		{func() (api.Tensor, api.Errno) { l := []int{2, 1, 5, 6}; return Of(l[:2], l[2:]...), api.OK }, false},
+	} {
+		copy(x.Shape[:3], []int{2, 1, 7})
+		copy(x.Data[:3], []int{5, 6, 7})
+		var told counter
+		Apart(&told, "call", c.answer, Of([]int{2, 1}, 5, 6), x.Shape[:3], x.Data[:3])
+		if (told.faults == 0) != c.apart {
+			t.Errorf("call %d: %d faults", i, told.faults)
+		}
+	}
+}
+
+func TestSamples(t *testing.T) {
+	for _, s := range Shapes(1, 2, 16) {
+		if !tensor.Check(Counted(s, 3)) || !tensor.Check(Filled(s, 1, 2)) {
+			t.Errorf("tensors of %v may not be", s)
+		}
+	}
+	for _, x := range WrongTensors() {
+		if tensor.Check(x) {
+			t.Errorf("a tensor of %v with %d numbers may be", x.Shape, len(x.Data))
+		}
+	}
+}
