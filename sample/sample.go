@@ -1,4 +1,4 @@
-// Package sample has the shapes and tensors that the layers' tests are made of, and holds answers against each other.
+// Package sample has the lists, shapes and tensors that the layers' tests are made of, and holds answers against each other.
 package sample
 
 import (
@@ -57,20 +57,25 @@ func Counted(s []int, from int) api.Tensor {
 	return t
 }
 
-// Shapes are all that may be, with sides as long as these.
-func Shapes(sides ...int) [][]int {
-	all, ahead := [][]int{nil}, [][]int{nil}
-	for range api.MaxDims {
-		var longer [][]int
-		for _, s := range ahead {
-			for _, side := range sides {
-				longer = append(longer, append(slices.Clone(s), side))
+// Lists are all of up to so many of these, the shortest ahead.
+func Lists[E any](long int, of ...E) [][]E {
+	all, ahead := [][]E{nil}, [][]E{nil}
+	for range long {
+		var longer [][]E
+		for _, l := range ahead {
+			for _, e := range of {
+				longer = append(longer, append(slices.Clone(l), e))
 			}
 		}
 		ahead = longer
 		all = append(all, longer...)
 	}
-	return slices.DeleteFunc(all, func(s []int) bool { return !shape.Check(s) })
+	return all
+}
+
+// Shapes are all that may be, with sides as long as these.
+func Shapes(sides ...int) [][]int {
+	return slices.DeleteFunc(Lists(api.MaxDims, sides...), func(s []int) bool { return !shape.Check(s) })
 }
 
 // WrongShapes may not be: sides too short, or too long, or too many, or too many numbers, some of which wrap round.
@@ -105,10 +110,10 @@ func Indices(s []int) [][]int {
 	return all
 }
 
-// Overwrite fills a list and its spare room, to find what else shares them.
-func Overwrite(l []int) {
+// Overwrite changes all of a list, and of its spare room, to find what else shares them.
+func Overwrite[E int | byte](l []E) {
 	for i := range l[:cap(l)] {
-		l[:cap(l)][i] = -9
+		l[:cap(l)][i] -= 99
 	}
 }
 

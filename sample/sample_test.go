@@ -1,6 +1,7 @@
 package sample
 
 import (
+	"fmt"
 	"slices"
 	"testing"
 
@@ -52,6 +53,31 @@ func TestApart(t *testing.T) {
 		if (told.faults == 0) != c.apart {
 			t.Errorf("call %d: %d faults", i, told.faults)
 		}
+	}
+}
+
+func TestLists(t *testing.T) {
+	for _, c := range []struct {
+		got  [][]byte
+		want string
+	}{
+		{Lists[byte](2), "[[]]"}, {Lists[byte](0, 1, 2), "[[]]"}, {Lists[byte](2, 7), "[[] [7] [7 7]]"},
+		{Lists[byte](2, 1, 2), "[[] [1] [2] [1 1] [1 2] [2 1] [2 2]]"},
+	} {
+		if got := fmt.Sprint(c.got); got != c.want {
+			t.Errorf("lists are %s; want %s", got, c.want)
+		}
+	}
+}
+
+// A list's spare room is written over, and what is beside it is not.
+func TestOverwrite(t *testing.T) {
+	l, b := []int{1, 2, 3}, []byte{1, 2, 3}
+	Overwrite(l[:1:2])
+	Overwrite(b[:1:2])
+	Overwrite[int](nil)
+	if l[0] == 1 || l[1] == 2 || l[2] != 3 || b[0] == 1 || b[1] == 2 || b[2] != 3 {
+		t.Errorf("what was written over is %v, %v", l, b)
 	}
 }
 
