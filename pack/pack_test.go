@@ -79,40 +79,14 @@ func counted(count, from int) []int {
 	return l
 }
 
-// beside are bytes to stand ahead, and behind: none, some, and many.
-func beside() [][]byte {
-	return [][]byte{nil, {}, {0}, {255}, {1, 2, 3}, bytes.Repeat([]byte{7, 0}, 300)}
-}
-
-// checkBytes holds bytes that were put against what they are to be.
-func checkBytes(t *testing.T, call string, got []byte, err api.Errno, want []byte, wantErr api.Errno) {
-	t.Helper()
-	if !bytes.Equal(got, want) || err != wantErr {
-		t.Errorf("%s: %v, %d; want %v, %d", call, got, err, want, wantErr)
-	}
-}
-
-// checkBehind holds what is put, behind whatever stands ahead, against what it is to be.
-func checkBehind(t *testing.T, call string, put func(b []byte) ([]byte, api.Errno), want []byte, wantErr api.Errno) {
-	t.Helper()
-	for _, b := range beside() {
-		all := slices.Concat(b, want)
-		if wantErr != api.OK {
-			all = nil
-		}
-		got, err := put(b)
-		checkBytes(t, call, got, err, all, wantErr)
-	}
-}
-
 // checkPut holds Put of n against want, and, where that may be, Take of it, ahead of whatever is behind.
 func checkPut(t *testing.T, n, size int, want []byte, wantErr api.Errno) {
 	t.Helper()
-	checkBehind(t, "Put", func(b []byte) ([]byte, api.Errno) { return Put(b, n, size) }, want, wantErr)
+	sample.CheckBehind(t, "Put", func(b []byte) ([]byte, api.Errno) { return Put(b, n, size) }, want, wantErr)
 	if wantErr != api.OK {
 		return
 	}
-	for _, behind := range beside() {
+	for _, behind := range sample.Beside() {
 		checkTake(t, slices.Concat(want, behind), size, n, behind, api.OK)
 	}
 }
@@ -129,11 +103,11 @@ func checkTake(t *testing.T, b []byte, size, want int, wantBehind []byte, wantEr
 // checkList holds List of l against want, and, where that may be, TakeList of it, ahead of whatever is behind.
 func checkList(t *testing.T, l []int, size int, want []byte, wantErr api.Errno) {
 	t.Helper()
-	checkBehind(t, "List", func(b []byte) ([]byte, api.Errno) { return List(b, l, size) }, want, wantErr)
+	sample.CheckBehind(t, "List", func(b []byte) ([]byte, api.Errno) { return List(b, l, size) }, want, wantErr)
 	if wantErr != api.OK {
 		return
 	}
-	for _, behind := range beside() {
+	for _, behind := range sample.Beside() {
 		checkTakeList(t, slices.Concat(want, behind), size, l, behind, api.OK)
 	}
 }
@@ -176,7 +150,7 @@ func TestPutAll(t *testing.T) {
 				want, wantErr = nil, api.ErrPack
 			}
 			got, err := Put(nil, n, size)
-			checkBytes(t, "Put", got, err, want, wantErr)
+			sample.CheckBytes(t, "Put", got, err, want, wantErr)
 			if wantErr == api.OK {
 				checkTake(t, want, size, n, nil, api.OK)
 			}
@@ -208,7 +182,7 @@ func TestSizeWrong(t *testing.T) {
 		for _, n := range []int{0, 1, 255, 256, 65536, -1, least, most} {
 			checkPut(t, n, size, nil, api.ErrPack)
 		}
-		for _, b := range append(beside(), make([]byte, 8), make([]byte, 1000)) {
+		for _, b := range append(sample.Beside(), make([]byte, 8), make([]byte, 1000)) {
 			checkTake(t, b, size, 0, nil, api.ErrPack)
 		}
 	}
@@ -291,7 +265,7 @@ func TestListSizeWrong(t *testing.T) {
 		for _, l := range [][]int{nil, {}, {0}, {1, 2}, {-1}, {256}, make([]int, 255), make([]int, 256)} {
 			checkList(t, l, size, nil, api.ErrPack)
 		}
-		for _, b := range append(beside(), make([]byte, 8), bytes.Repeat([]byte{1}, 1000)) {
+		for _, b := range append(sample.Beside(), make([]byte, 8), bytes.Repeat([]byte{1}, 1000)) {
 			checkTakeList(t, b, size, nil, nil, api.ErrPack)
 		}
 	}
@@ -342,8 +316,8 @@ func TestTakeAll(t *testing.T) {
 // P8.3: numbers and lists of all sizes, one behind the other, whatever stands ahead, and behind.
 func TestTakenAgain(t *testing.T) {
 	parts := [][]int{{0}, {255}, nil, {65535, 0, 256}, counted(255, 1), {least, -1, most}}
-	for _, ahead := range beside() {
-		for _, behind := range beside() {
+	for _, ahead := range sample.Beside() {
+		for _, behind := range sample.Beside() {
 			b := ahead
 			for i, l := range parts {
 				b = putPart(t, b, l, i)
@@ -352,7 +326,7 @@ func TestTakenAgain(t *testing.T) {
 			for i, l := range parts {
 				left = takePart(t, left, l, i)
 			}
-			checkBytes(t, "what is behind", left, api.OK, behind, api.OK)
+			sample.CheckBytes(t, "what is behind", left, api.OK, behind, api.OK)
 		}
 	}
 }
@@ -413,11 +387,13 @@ func TestMemory(t *testing.T) {
 			all, _ := List(b, l[:3], size)
 			numbers, behindList, _ := TakeList(b, size)
 			none, _ := List(b, nil, size)
-			checkApart(t, []answer{
-				{number, put}, {behind, taken[size:]}, {all, list}, {behindList, taken[len(taken)-2:]}, {none, append(slices.Clone(taken), 0)},
+			left := taken[len(taken)-2:]
+			sample.BytesApart(t, []sample.Answer{
+				{Got: number, Want: put}, {Got: behind, Want: taken[size:]}, {Got: all, Want: list}, {Got: behindList, Want: left},
+				{Got: none, Want: append(slices.Clone(taken), 0)},
 			})
 			sample.Overwrite(numbers)
-			checkBytes(t, "what is behind a list that is written over", behindList, api.OK, changed(taken[len(taken)-2:]), api.OK)
+			sample.CheckBytes(t, "what is behind a list that is written over", behindList, api.OK, sample.Changed(left), api.OK)
 		}
 		for _, wrong := range []int{-1, 256, 65536, most} {
 			Put(b[:3], wrong, size)
@@ -429,29 +405,6 @@ func TestMemory(t *testing.T) {
 			t.Errorf("size %d: what was handed in is now %v, %v", size, b, l)
 		}
 	}
-}
-
-// answer is what a call answered, and what that is to be.
-type answer struct{ got, want []byte }
-
-// checkApart holds answers against what they are to be, and writes each over, which no other may have.
-func checkApart(t *testing.T, all []answer) {
-	t.Helper()
-	for i, a := range all {
-		checkBytes(t, "answer", a.got, api.OK, a.want, api.OK)
-		sample.Overwrite(a.got)
-		all[i].want = changed(a.want)
-	}
-	for _, a := range all {
-		checkBytes(t, "answer that was written over", a.got, api.OK, a.want, api.OK)
-	}
-}
-
-// changed are bytes that were written over once.
-func changed(b []byte) []byte {
-	b = slices.Clone(b)
-	sample.Overwrite(b)
-	return b
 }
 
 // R1: whatever ends a call, no panic leaves it.

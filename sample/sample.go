@@ -1,7 +1,8 @@
-// Package sample has the lists, shapes and tensors that the layers' tests are made of, and holds answers against each other.
+// Package sample has the lists, shapes, tensors and bytes that the layers' tests are made of, and holds answers against each other.
 package sample
 
 import (
+	"bytes"
 	"math"
 	"slices"
 
@@ -26,6 +27,27 @@ func Check(t Teller, call string, got api.Tensor, err api.Errno, want api.Tensor
 	t.Helper()
 	if !slices.Equal(got.Shape, want.Shape) || !slices.Equal(got.Data, want.Data) || err != wantErr {
 		t.Errorf("%s: %v, %d; want %v, %d", call, got, err, want, wantErr)
+	}
+}
+
+// CheckBytes holds bytes that a call answered against what they are to be.
+func CheckBytes(t Teller, call string, got []byte, err api.Errno, want []byte, wantErr api.Errno) {
+	t.Helper()
+	if !bytes.Equal(got, want) || err != wantErr {
+		t.Errorf("%s: %v, %d; want %v, %d", call, got, err, want, wantErr)
+	}
+}
+
+// CheckBehind holds what is put, behind whatever stands ahead, against what it is to be.
+func CheckBehind(t Teller, call string, put func(b []byte) ([]byte, api.Errno), want []byte, wantErr api.Errno) {
+	t.Helper()
+	for _, b := range Beside() {
+		all := slices.Concat(b, want)
+		if wantErr != api.OK {
+			all = nil
+		}
+		got, err := put(b)
+		CheckBytes(t, call, got, err, all, wantErr)
 	}
 }
 
@@ -100,6 +122,11 @@ func WrongTensors() []api.Tensor {
 	return all
 }
 
+// Beside are bytes to stand ahead, and behind: none, some, and many.
+func Beside() [][]byte {
+	return [][]byte{nil, {}, {0}, {255}, {1, 2, 3}, bytes.Repeat([]byte{7, 0}, 300)}
+}
+
 // Indices are those of s, the least ahead.
 func Indices(s []int) [][]int {
 	var all [][]int
@@ -130,5 +157,27 @@ func Apart(t Teller, call string, answer func() (api.Tensor, api.Errno), want ap
 		if !slices.Equal(slices.Concat(handed...), before) {
 			t.Errorf("%s: what was handed in is now %v, not %v", call, handed, before)
 		}
+	}
+}
+
+// Changed is a list as Overwrite leaves it.
+func Changed[E int | byte](l []E) []E {
+	l = slices.Clone(l)
+	Overwrite(l)
+	return l
+}
+
+// Answer is bytes that a call answered, and what they are to be.
+type Answer struct{ Got, Want []byte }
+
+// BytesApart holds answers against what they are to be, and writes each over, which no other may have.
+func BytesApart(t Teller, all []Answer) {
+	t.Helper()
+	for _, a := range all {
+		CheckBytes(t, "answer", a.Got, api.OK, a.Want, api.OK)
+		Overwrite(a.Got)
+	}
+	for _, a := range all {
+		CheckBytes(t, "answer that was written over", a.Got, api.OK, Changed(a.Want), api.OK)
 	}
 }

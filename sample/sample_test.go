@@ -56,6 +56,67 @@ func TestApart(t *testing.T) {
 	}
 }
 
+func TestCheckBytes(t *testing.T) {
+	for _, c := range []struct {
+		got    []byte
+		err    api.Errno
+		faults int
+	}{
+		{[]byte{1, 2}, api.OK, 0}, {[]byte{1, 2}, api.ErrPack, 1}, {[]byte{1, 3}, api.OK, 1}, {[]byte{1}, api.OK, 1}, {nil, api.OK, 1},
+	} {
+		var told counter
+		CheckBytes(&told, "call", c.got, c.err, []byte{1, 2}, api.OK)
+		if told.faults != c.faults {
+			t.Errorf("%v, %d: %d faults, not %d", c.got, c.err, told.faults, c.faults)
+		}
+	}
+}
+
+// What is put is to stand behind all that is ahead; beside an error there is to be nothing.
+func TestCheckBehind(t *testing.T) {
+	for i, c := range []struct {
+		put func(b []byte) ([]byte, api.Errno)
+		err api.Errno
+		may bool
+	}{
+		{func(b []byte) ([]byte, api.Errno) { return slices.Concat(b, []byte{9}), api.OK }, api.OK, true},
+		{func(b []byte) ([]byte, api.Errno) { return []byte{9}, api.OK }, api.OK, false},
+		{func(b []byte) ([]byte, api.Errno) { return b, api.OK }, api.OK, false},
+		{func(b []byte) ([]byte, api.Errno) { return nil, api.ErrPack }, api.OK, false},
+		{func(b []byte) ([]byte, api.Errno) { return nil, api.ErrPack }, api.ErrPack, true},
+		{func(b []byte) ([]byte, api.Errno) { return b, api.ErrPack }, api.ErrPack, false},
+	} {
+		var told counter
+		CheckBehind(&told, "call", c.put, []byte{9}, c.err)
+		if (told.faults == 0) != c.may {
+			t.Errorf("put %d: %d faults", i, told.faults)
+		}
+	}
+}
+
+// Answers that share memory have a fault; those that share none, or are none, have none.
+func TestBytesApart(t *testing.T) {
+	b := []byte{1, 2, 3, 4}
+	for i, c := range []struct {
+		all   []Answer
+		apart bool
+	}{
+		{[]Answer{{[]byte{1, 2}, []byte{1, 2}}, {[]byte{1, 2}, []byte{1, 2}}, {nil, []byte{}}}, true},
+		{[]Answer{{[]byte{1, 2}, []byte{1, 3}}}, false},
+		{[]Answer{{b[:2:2], []byte{1, 2}}, {b[2:], []byte{3, 4}}}, true},
+		{[]Answer{{b[:2], []byte{1, 2}}, {b[2:], []byte{3, 4}}}, false},
+		{[]Answer{{b[2:], []byte{3, 4}}, {b[:2], []byte{1, 2}}}, false},
+		{[]Answer{{b[1:3], []byte{2, 3}}, {b[2:], []byte{3, 4}}}, false},
+	} {
+		copy(b, []byte{1, 2, 3, 4})
+		var told counter
+		BytesApart(&told, c.all)
+		if (told.faults == 0) != c.apart {
+			t.Errorf("answers %d: %d faults", i, told.faults)
+		}
+	}
+}
+
 func TestLists(t *testing.T) {
 	for _, c := range []struct {
 		got  [][]byte
