@@ -14,141 +14,7 @@ const (
 	most  = sample.Most
 )
 
-// of is a node of others.
-func of(op int, args ...int) api.Node {
-	return api.Node{Op: op, Args: args}
-}
-
-// with is that node with numbers.
-func with(n api.Node, nums ...int) api.Node {
-	n.Nums = nums
-	return n
-}
-
-func input(s ...int) api.Node {
-	return with(of(api.OInput), s...)
-}
-
-func param(p int, s ...int) api.Node {
-	return with(of(api.OParam), append([]int{p}, s...)...)
-}
-
-func number(n int) api.Node {
-	return with(of(api.OConst), n)
-}
-
-// graphOf is a list of nodes.
-func graphOf(l ...api.Node) []api.Node {
-	return l
-}
-
-// three are nodes to stand ahead, none of which names what is given, or a parameter.
-func three() []api.Node {
-	return graphOf(number(-5), of(api.OTurn, 0), number(4))
-}
-
-// line is so many nodes, each reckoned of the one ahead of it.
-func line(count int) []api.Node {
-	l := graphOf(number(1))
-	for node := 1; node < count; node++ {
-		l = append(l, of(api.ONeg, node-1))
-	}
-	return l
-}
-
-// ops are all that there are, in the chapter's order, by of how many nodes they are reckoned.
-func ops() [3][]int {
-	return [3][]int{
-		{api.OInput, api.OParam, api.OConst},
-		{api.ONeg, api.ORelu, api.OPow, api.OSqrt, api.OReshape, api.OTurn, api.OSlice, api.OSum, api.OMean, api.OMax},
-		{api.OAdd, api.OSub, api.OMul, api.ODiv, api.OMatmul, api.OJoin},
-	}
-}
-
-// right is a node of an op, of the first nodes there are, that may be.
-func right(op int) api.Node {
-	for count, l := range ops() {
-		if slices.Contains(l, op) {
-			n := of(op, []int{0, 1}[:count]...)
-			switch op {
-			case api.OInput, api.OReshape:
-				n.Nums = []int{2, 3}
-			case api.OParam:
-				n.Nums = []int{5, 2, 3}
-			case api.OSlice:
-				n.Nums = []int{0, 1, 2}
-			case api.OConst, api.OJoin, api.OSum, api.OMean, api.OMax:
-				n.Nums = []int{0}
-			}
-			return n
-		}
-	}
-	panic("no such op")
-}
-
-// wrongOps are none: beside those that there are, and far off, some of which wrap round to one.
-func wrongOps() []int {
-	all := []int{least, least + 1, -1 << 32, 1 << 32, 1<<32 + api.OInput, 1<<32 + api.OAdd, 256 + api.OConst, 1<<16 + api.ONeg, 1<<62 + 1, most - 1, most}
-	for op := -60; op <= 300; op++ {
-		known := false
-		for _, l := range ops() {
-			known = known || slices.Contains(l, op)
-		}
-		if !known {
-			all = append(all, op)
-		}
-	}
-	return all
-}
-
-// wrongNums are lists that are no Nums of an op.
-func wrongNums(op int) [][]int {
-	var all [][]int
-	short := sample.Lists(5, least, -1, 0, 1, 2)
-	switch op {
-	case api.OInput, api.OReshape:
-		return append(sample.WrongShapes(), make([]int, 100000), slices.Repeat([]int{1}, 100000), []int{5, 1, 1, 1})
-	case api.OParam:
-		for _, s := range sample.WrongShapes() {
-			for p := range api.MaxParams {
-				all = append(all, append([]int{p}, s...))
-			}
-		}
-		for _, s := range [][]int{nil, {1}, {2, 3}, {4, 4, 4}} {
-			for _, p := range []int{least, -1 << 32, -8, -1, 8, 9, 16, 255, 256, 1 << 32, 1<<32 + 1, most} {
-				all = append(all, append([]int{p}, s...))
-			}
-		}
-		return append(all, nil, []int{}, make([]int, 100000), []int{1, 1, 1, 1, 1})
-	case api.OSlice:
-		return append(slices.DeleteFunc(short, func(l []int) bool { return len(l) == 3 }), make([]int, 100000))
-	case api.OConst, api.OJoin, api.OSum, api.OMean, api.OMax:
-		return append(slices.DeleteFunc(short, func(l []int) bool { return len(l) == 1 }), make([]int, 100000))
-	}
-	return append(short[1:], make([]int, 100000))
-}
-
-// rightNums are lists that are Nums of an op.
-func rightNums(op int) [][]int {
-	ends := []int{least, -1, 0, 1, 2, 16, 17, 1 << 32, most}
-	var all [][]int
-	switch op {
-	case api.OInput, api.OReshape:
-		return append(sample.Shapes(1, 2, 3, 4, 8, 15, 16), []int{})
-	case api.OParam:
-		for p := range api.MaxParams {
-			for _, s := range sample.Shapes(1, 2, 3, 4, 8, 15, 16) {
-				all = append(all, append([]int{p}, s...))
-			}
-		}
-		return all
-	case api.OSlice:
-		return slices.DeleteFunc(sample.Lists(3, ends...), func(l []int) bool { return len(l) != 3 })
-	case api.OConst, api.OJoin, api.OSum, api.OMean, api.OMax:
-		return sample.Lists(1, ends...)[1:]
-	}
-	return [][]int{nil, {}}
-}
+var of, with, input, param, number, graphOf, line = sample.Node, sample.With, sample.Input, sample.Param, sample.Number, sample.Graph, sample.Line
 
 // checkRight holds that l may be.
 func checkRight(t *testing.T, l []api.Node) {
@@ -181,14 +47,14 @@ func checkList(t *testing.T, call string, l []api.Node, got, want []int) {
 
 // P10.1: all ops, and what is none.
 func TestArity(t *testing.T) {
-	for count, l := range ops() {
+	for count, l := range sample.Ops() {
 		for _, op := range l {
 			if got := Arity(op); got != count {
 				t.Errorf("Arity(%d) is %d; want %d", op, got, count)
 			}
 		}
 	}
-	for _, op := range wrongOps() {
+	for _, op := range sample.WrongOps() {
 		if got := Arity(op); got != -1 {
 			t.Errorf("Arity(%d) is %d; want -1", op, got)
 		}
@@ -212,17 +78,17 @@ func TestCheckCount(t *testing.T) {
 
 // P10.1: each op alone, or behind nodes of it, with all Nums that it may have, and with some that it may not.
 func TestCheckNums(t *testing.T) {
-	for _, l := range ops() {
+	for _, l := range sample.Ops() {
 		for _, op := range l {
-			n := right(op)
-			for _, nums := range rightNums(op) {
-				checkRight(t, append(three(), with(n, nums...)))
+			n := sample.RightNode(op)
+			for _, nums := range sample.RightNums(op) {
+				checkRight(t, append(sample.Three(), with(n, nums...)))
 				if len(n.Args) == 0 {
 					checkRight(t, graphOf(with(n, nums...)))
 				}
 			}
-			for _, nums := range wrongNums(op) {
-				checkWrong(t, append(three(), with(n, nums...)))
+			for _, nums := range sample.WrongNums(op) {
+				checkWrong(t, append(sample.Three(), with(n, nums...)))
 				if len(n.Args) == 0 {
 					checkWrong(t, graphOf(with(n, nums...)))
 				}
@@ -233,15 +99,15 @@ func TestCheckNums(t *testing.T) {
 
 // P10.1: each op, with all lists of Args as long as they may be, or not, of nodes ahead.
 func TestCheckArgs(t *testing.T) {
-	for count, l := range ops() {
+	for count, l := range sample.Ops() {
 		for _, op := range l {
 			for _, args := range append(sample.Lists(4, 0, 1, 2), []int{}, make([]int, 256), make([]int, 100000)) {
-				n := right(op)
+				n := sample.RightNode(op)
 				n.Args = args
 				if len(args) == count {
-					checkRight(t, append(three(), n))
+					checkRight(t, append(sample.Three(), n))
 				} else {
-					checkWrong(t, append(three(), n))
+					checkWrong(t, append(sample.Three(), n))
 				}
 			}
 		}
@@ -250,21 +116,21 @@ func TestCheckArgs(t *testing.T) {
 
 // P10.1: Args that are no node ahead: itself, ones behind, and none at all.
 func TestCheckAhead(t *testing.T) {
-	for _, l := range ops() {
+	for _, l := range sample.Ops() {
 		for _, op := range l {
-			for place := range right(op).Args {
+			for place := range sample.RightNode(op).Args {
 				for _, wrong := range []int{least, -1 << 32, -3, -2, -1, 3, 4, 5, 23, 24, 1 << 32, 1<<32 + 1, most} {
-					n := right(op)
+					n := sample.RightNode(op)
 					n.Args[place] = wrong
-					checkWrong(t, append(three(), n))
-					checkWrong(t, append(three(), n, number(1), number(2)))
+					checkWrong(t, append(sample.Three(), n))
+					checkWrong(t, append(sample.Three(), n, number(1), number(2)))
 				}
 			}
 			// Right as it is, it is not ahead of what it is reckoned of.
-			for ahead := range len(right(op).Args) {
-				l := append(three()[:ahead:ahead], right(op))
+			for ahead := range len(sample.RightNode(op).Args) {
+				l := append(sample.Three()[:ahead:ahead], sample.RightNode(op))
 				checkWrong(t, l)
-				checkWrong(t, append(l, three()...))
+				checkWrong(t, append(l, sample.Three()...))
 			}
 		}
 	}
@@ -272,11 +138,11 @@ func TestCheckAhead(t *testing.T) {
 
 // P10.1
 func TestCheckOp(t *testing.T) {
-	for _, op := range wrongOps() {
+	for _, op := range sample.WrongOps() {
 		for _, args := range [][]int{nil, {0}, {0, 1}, {0, 1, 2}} {
 			for _, nums := range [][]int{nil, {0}, {1}, {0, 1}, {0, 1, 2}} {
 				checkWrong(t, graphOf(with(of(op, args...), nums...)))
-				checkWrong(t, append(three(), with(of(op, args...), nums...)))
+				checkWrong(t, append(sample.Three(), with(of(op, args...), nums...)))
 			}
 		}
 	}

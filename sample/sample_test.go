@@ -6,6 +6,7 @@ import (
 	"testing"
 
 	"fuller/api"
+	"fuller/graph"
 	"fuller/tensor"
 )
 
@@ -152,5 +153,38 @@ func TestSamples(t *testing.T) {
 		if tensor.Check(x) {
 			t.Errorf("a tensor of %v with %d numbers may be", x.Shape, len(x.Data))
 		}
+	}
+}
+
+// Nodes of each op may be, and there are numbers of each that may be, and others that may not.
+func TestNodes(t *testing.T) {
+	for count, ops := range Ops() {
+		for _, op := range ops {
+			n := RightNode(op)
+			if !graph.Check(append(Three(), n)) || len(n.Args) != count {
+				t.Errorf("%v may not be, or is not reckoned of %d nodes", n, count)
+			}
+			for _, nums := range RightNums(op) {
+				if !graph.Check(append(Three(), With(n, nums...))) {
+					t.Errorf("%v may not be numbers of %v", nums, n)
+				}
+			}
+			for _, nums := range WrongNums(op) {
+				if graph.Check(append(Three(), With(n, nums...))) {
+					t.Errorf("%v may be numbers of %v", nums, n)
+				}
+			}
+			if len(RightNums(op)) == 0 || len(WrongNums(op)) == 0 {
+				t.Errorf("%v has no numbers that may be, or none that may not", n)
+			}
+		}
+	}
+	for _, op := range WrongOps() {
+		if graph.Arity(op) != -1 {
+			t.Errorf("there is an op %d", op)
+		}
+	}
+	if !graph.Check(Line(api.MaxNodes)) || len(Line(api.MaxNodes+1)) != api.MaxNodes+1 {
+		t.Errorf("a line may not be, or is not as long as it is to be")
 	}
 }
