@@ -61,120 +61,49 @@ func TestArity(t *testing.T) {
 	}
 }
 
-// P10.1: as many nodes as there may be, and more.
+// P10.1: graphs that may not be, in each way.
+func TestCheckWrong(t *testing.T) {
+	for _, l := range sample.WrongGraphs() {
+		checkWrong(t, l)
+	}
+}
+
+// P10.1: as many nodes as there may be.
 func TestCheckCount(t *testing.T) {
-	checkWrong(t, nil)
-	checkWrong(t, []api.Node{})
-	checkWrong(t, line(3)[:0])
 	for count := 1; count <= api.MaxNodes; count++ {
 		checkRight(t, line(count))
 		checkRight(t, slices.Repeat(graphOf(number(7)), count))
 	}
-	for _, count := range []int{25, 26, 48, 256, 257, 100000} {
-		checkWrong(t, line(count))
-		checkWrong(t, slices.Repeat(graphOf(number(7)), count))
-	}
 }
 
-// P10.1: each op alone, or behind nodes of it, with all Nums that it may have, and with some that it may not.
-func TestCheckNums(t *testing.T) {
-	for _, l := range sample.Ops() {
+// P10.1: each op alone, or behind nodes of it, with all Nums that it may have, and of all nodes ahead.
+func TestCheckOp(t *testing.T) {
+	for count, l := range sample.Ops() {
 		for _, op := range l {
 			n := sample.RightNode(op)
 			for _, nums := range sample.RightNums(op) {
 				checkRight(t, append(sample.Three(), with(n, nums...)))
-				if len(n.Args) == 0 {
+				if count == 0 {
 					checkRight(t, graphOf(with(n, nums...)))
 				}
 			}
-			for _, nums := range sample.WrongNums(op) {
-				checkWrong(t, append(sample.Three(), with(n, nums...)))
-				if len(n.Args) == 0 {
-					checkWrong(t, graphOf(with(n, nums...)))
-				}
-			}
-		}
-	}
-}
-
-// P10.1: each op, with all lists of Args as long as they may be, or not, of nodes ahead.
-func TestCheckArgs(t *testing.T) {
-	for count, l := range sample.Ops() {
-		for _, op := range l {
-			for _, args := range append(sample.Lists(4, 0, 1, 2), []int{}, make([]int, 256), make([]int, 100000)) {
-				n := sample.RightNode(op)
-				n.Args = args
+			for _, args := range append(sample.Lists(2, 0, 1, 2), []int{}) {
 				if len(args) == count {
+					n.Args = args
 					checkRight(t, append(sample.Three(), n))
-				} else {
-					checkWrong(t, append(sample.Three(), n))
 				}
 			}
 		}
 	}
 }
 
-// P10.1: Args that are no node ahead: itself, ones behind, and none at all.
-func TestCheckAhead(t *testing.T) {
-	for _, l := range sample.Ops() {
-		for _, op := range l {
-			for place := range sample.RightNode(op).Args {
-				for _, wrong := range []int{least, -1 << 32, -3, -2, -1, 3, 4, 5, 23, 24, 1 << 32, 1<<32 + 1, most} {
-					n := sample.RightNode(op)
-					n.Args[place] = wrong
-					checkWrong(t, append(sample.Three(), n))
-					checkWrong(t, append(sample.Three(), n, number(1), number(2)))
-				}
-			}
-			// Right as it is, it is not ahead of what it is reckoned of.
-			for ahead := range len(sample.RightNode(op).Args) {
-				l := append(sample.Three()[:ahead:ahead], sample.RightNode(op))
-				checkWrong(t, l)
-				checkWrong(t, append(l, sample.Three()...))
-			}
-		}
-	}
-}
-
-// P10.1
-func TestCheckOp(t *testing.T) {
-	for _, op := range sample.WrongOps() {
-		for _, args := range [][]int{nil, {0}, {0, 1}, {0, 1, 2}} {
-			for _, nums := range [][]int{nil, {0}, {1}, {0, 1}, {0, 1, 2}} {
-				checkWrong(t, graphOf(with(of(op, args...), nums...)))
-				checkWrong(t, append(sample.Three(), with(of(op, args...), nums...)))
-			}
-		}
-	}
-}
-
-// P10.1: what is wrong is wrong at each place of the longest graph, whether the last node hangs on it or not.
-func TestCheckPlace(t *testing.T) {
-	for _, l := range [][]api.Node{line(api.MaxNodes), slices.Repeat(graphOf(number(7)), api.MaxNodes)} {
-		for place := range l {
-			for _, wrong := range []api.Node{
-				{}, of(api.OConst), with(of(api.OConst, 0), 1), param(8), param(-1), param(0, 17), input(0), of(4), of(api.ONeg), of(api.ONeg, place),
-				of(api.OAdd, place, 0), of(api.OAdd, 0, place), of(api.OTurn, -1), with(of(api.ONeg, 0), 1), with(of(api.OReshape, 0), 65),
-			} {
-				changed := slices.Clone(l)
-				changed[place] = wrong
-				checkWrong(t, changed)
-			}
-		}
-	}
-}
-
-// P10.1: what is given has one shape, and so has each parameter, wherever it is named.
+// P10.1: what is given has one shape, and so has each parameter, wherever it is named; others have any.
 func TestCheckAlike(t *testing.T) {
 	shapes := append(sample.Shapes(1, 2, 3, 6), []int{})
 	for _, a := range shapes {
+		checkRight(t, graphOf(input(a...), input(a...)))
+		checkRight(t, graphOf(param(7, a...), param(7, a...)))
 		for _, b := range shapes {
-			check := checkWrong
-			if slices.Equal(a, b) {
-				check = checkRight
-			}
-			check(t, graphOf(input(a...), input(b...)))
-			check(t, graphOf(param(7, a...), param(7, b...)))
 			checkRight(t, graphOf(input(a...), param(0, b...)))
 			checkRight(t, graphOf(param(0, a...), param(7, b...)))
 			checkRight(t, graphOf(input(2, 3), with(of(api.OReshape, 0), a...), with(of(api.OReshape, 0), b...)))
@@ -186,11 +115,6 @@ func TestCheckAlike(t *testing.T) {
 		l := slices.Repeat(graphOf(alike(2, 3)), api.MaxNodes)
 		checkRight(t, l)
 		for place := range l {
-			for _, s := range [][]int{{3, 2}, {2}, {6}, {2, 3, 1}, {1, 2, 3}, {}} {
-				changed := slices.Clone(l)
-				changed[place] = alike(s...)
-				checkWrong(t, changed)
-			}
 			changed := slices.Clone(l)
 			changed[place] = param(4, 3, 2)
 			checkRight(t, changed)
@@ -316,8 +240,7 @@ func TestLive(t *testing.T) {
 
 // grown are all graphs of so many nodes, of a number, its other sides, and products.
 func grown(count int) [][]api.Node {
-	all := [][]api.Node{nil}
-	for node := range count {
+	return sample.Grown(nil, count, func(node int) []api.Node {
 		choice := graphOf(number(1))
 		for a := range node {
 			choice = append(choice, of(api.ONeg, a))
@@ -325,15 +248,8 @@ func grown(count int) [][]api.Node {
 				choice = append(choice, of(api.OMul, a, b))
 			}
 		}
-		var longer [][]api.Node
-		for _, l := range all {
-			for _, n := range choice {
-				longer = append(longer, append(slices.Clone(l), n))
-			}
-		}
-		all = longer
-	}
-	return all
+		return choice
+	})
 }
 
 // usesOf is Uses, by the promise's words.

@@ -390,23 +390,16 @@ func TestShapesFirst(t *testing.T) {
 
 // grown are all graphs of so many nodes, of seven kinds, behind what is given and a parameter.
 func grown(count int) [][]api.Node {
-	all := [][]api.Node{graphOf(input(2, 3), param(1, 2))}
-	for range count {
-		var longer [][]api.Node
-		for _, l := range all {
-			for a := range l {
-				choice := graphOf(of(api.OTurn, a), with(of(api.OSum, a), 0), with(of(api.OSlice, a), 0, 1, 2), with(of(api.OReshape, a), 6))
-				for b := range l {
-					choice = append(choice, of(api.OMul, a, b), of(api.OMatmul, a, b), with(of(api.OJoin, a, b), 0))
-				}
-				for _, n := range choice {
-					longer = append(longer, append(slices.Clone(l), n))
-				}
+	return sample.Grown(graphOf(input(2, 3), param(1, 2)), count, func(node int) []api.Node {
+		var choice []api.Node
+		for a := range node {
+			choice = append(choice, of(api.OTurn, a), with(of(api.OSum, a), 0), with(of(api.OSlice, a), 0, 1, 2), with(of(api.OReshape, a), 6))
+			for b := range node {
+				choice = append(choice, of(api.OMul, a, b), of(api.OMatmul, a, b), with(of(api.OJoin, a, b), 0))
 			}
 		}
-		all = longer
-	}
-	return all
+		return choice
+	})
 }
 
 // shapeOf is the shape of a node of l, as it is reckoned, of what it is reckoned of, and so on.
@@ -500,17 +493,7 @@ func TestShapesMemory(t *testing.T) {
 		l := room[:8]
 		checkShapes(t, l, wants, -1, api.OK)
 		all, _, _ := infer.Shapes(l)
-		for i, s := range all {
-			if !slices.Equal(s, wants[i]) {
-				t.Errorf("the shape %d, another one written over, is %v", i, s)
-			}
-			sample.Overwrite(s)
-		}
-		for i, s := range all {
-			if !slices.Equal(s, sample.Changed(wants[i])) {
-				t.Errorf("the shape %d, written over, is %v", i, s)
-			}
-		}
+		sample.ListsApart(t, all, wants)
 		clear(all[:cap(all)])
 		if after := fmt.Sprint(room, given, named); after != before {
 			t.Errorf("what was handed in is now %s, not %s", after, before)

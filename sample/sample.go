@@ -181,3 +181,23 @@ func BytesApart(t Teller, all []Answer) {
 		CheckBytes(t, "answer that was written over", a.Got, api.OK, Changed(a.Want), api.OK)
 	}
 }
+
+// ListsApart holds lists that one call answered against what they are to be, and writes each over, which no other may have.
+func ListsApart(t Teller, got, want [][]int) {
+	t.Helper()
+	if len(got) != len(want) {
+		t.Errorf("%d lists; want %d", len(got), len(want))
+		return
+	}
+	for i, l := range got {
+		if !slices.Equal(l, want[i]) {
+			t.Errorf("list %d, those ahead written over, is %v; want %v", i, l, want[i])
+		}
+		Overwrite(l)
+	}
+	for i, l := range got {
+		if !slices.Equal(l, Changed(want[i])) {
+			t.Errorf("list %d, written over, is %v; want %v", i, l, Changed(want[i]))
+		}
+	}
+}

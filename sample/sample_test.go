@@ -118,6 +118,32 @@ func TestBytesApart(t *testing.T) {
 	}
 }
 
+// Lists that share memory have a fault, and so have others than they are to be; those that share none, or are none, have none.
+func TestListsApart(t *testing.T) {
+	l := []int{1, 2, 3, 4}
+	for i, c := range []struct {
+		got, want [][]int
+		apart     bool
+	}{
+		{nil, nil, true},
+		{[][]int{{1, 2}, nil, {1, 2}}, [][]int{{1, 2}, {}, {1, 2}}, true},
+		{[][]int{{1, 2}}, [][]int{{1, 3}}, false},
+		{[][]int{{1, 2}}, [][]int{{1, 2}, {}}, false},
+		{[][]int{{1, 2}, {}}, [][]int{{1, 2}}, false},
+		{[][]int{l[:2:2], l[2:]}, [][]int{{1, 2}, {3, 4}}, true},
+		{[][]int{l[:2], l[2:]}, [][]int{{1, 2}, {3, 4}}, false},
+		{[][]int{l[2:], l[:2]}, [][]int{{3, 4}, {1, 2}}, false},
+		{[][]int{l[1:3], l[2:]}, [][]int{{2, 3}, {3, 4}}, false},
+	} {
+		copy(l, []int{1, 2, 3, 4})
+		var told counter
+		ListsApart(&told, c.got, c.want)
+		if (told.faults == 0) != c.apart {
+			t.Errorf("lists %d: %d faults", i, told.faults)
+		}
+	}
+}
+
 func TestLists(t *testing.T) {
 	for _, c := range []struct {
 		got  [][]byte
@@ -186,5 +212,44 @@ func TestNodes(t *testing.T) {
 	}
 	if !graph.Check(Line(api.MaxNodes)) || len(Line(api.MaxNodes+1)) != api.MaxNodes+1 {
 		t.Errorf("a line may not be, or is not as long as it is to be")
+	}
+}
+
+func TestGrown(t *testing.T) {
+	choice := func(node int) []api.Node { return Graph(Number(node), Param(node)) }
+	for _, c := range []struct {
+		ahead []api.Node
+		count int
+		want  [][]api.Node
+	}{
+		{nil, 0, [][]api.Node{nil}},
+		{Three(), 0, [][]api.Node{Three()}},
+		{nil, 1, [][]api.Node{{Number(0)}, {Param(0)}}},
+		{Graph(Input(5)), 1, [][]api.Node{{Input(5), Number(1)}, {Input(5), Param(1)}}},
+		{nil, 2, [][]api.Node{{Number(0), Number(1)}, {Number(0), Param(1)}, {Param(0), Number(1)}, {Param(0), Param(1)}}},
+	} {
+		if got := Grown(c.ahead, c.count, choice); fmt.Sprint(got) != fmt.Sprint(c.want) {
+			t.Errorf("graphs of %d behind %v are %v; want %v", c.count, c.ahead, got, c.want)
+		}
+	}
+}
+
+// The first node that is wrong stands at each place that a graph has, and behind them.
+func TestWrongGraphs(t *testing.T) {
+	first := map[int]int{}
+	for _, l := range WrongGraphs() {
+		if graph.Check(l) {
+			t.Errorf("%v may be", l)
+		}
+		right := 0
+		for right < len(l) && graph.Check(l[:right+1]) {
+			right++
+		}
+		first[right]++
+	}
+	for right := range api.MaxNodes + 1 {
+		if first[right] == 0 {
+			t.Errorf("none is wrong from node %d on", right)
+		}
 	}
 }
