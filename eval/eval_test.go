@@ -24,32 +24,9 @@ const (
 
 var (
 	of, with, input, param, number, graphOf, line = sample.Node, sample.With, sample.Input, sample.Param, sample.Number, sample.Graph, sample.Line
-	filled, counted, row                          = sample.Filled, sample.Counted, sample.Row
+	filled, counted, row, cell, table             = sample.Filled, sample.Counted, sample.Row, sample.Cell, sample.Table
+	args, same, shapesOf                          = sample.Tensors, sample.Same, sample.ShapesOf
 )
-
-// cell is a tensor of no sides.
-func cell(n int) api.Tensor {
-	return sample.Of(nil, n)
-}
-
-// table is a tensor of so many rows, and columns.
-func table(rows, columns int, data ...int) api.Tensor {
-	return sample.Of([]int{rows, columns}, data...)
-}
-
-// args are the tensors that a node is reckoned of.
-func args(l ...api.Tensor) []api.Tensor {
-	return l
-}
-
-// outside is what is given, and the parameters: all of one shape, and each of other numbers.
-func outside() (api.Tensor, []api.Tensor) {
-	var params []api.Tensor
-	for p := range api.MaxParams {
-		params = append(params, counted([]int{2, 3}, 100*p))
-	}
-	return table(2, 3, most, least, 0, one, -one, 7), params
-}
 
 // checkNode holds what Node answers against what it is to be.
 func checkNode(t *testing.T, n api.Node, args []api.Tensor, in api.Tensor, params []api.Tensor, want api.Tensor, wantErr api.Errno) {
@@ -63,7 +40,7 @@ func checkNode(t *testing.T, n api.Node, args []api.Tensor, in api.Tensor, param
 // checkWrong holds that a node has an error, whether what is given, and the parameters, are right, or there are none.
 func checkWrong(t *testing.T, n api.Node, args []api.Tensor, want api.Errno) {
 	t.Helper()
-	in, params := outside()
+	in, params := sample.Outside()
 	checkNode(t, n, args, in, params, api.Tensor{}, want)
 	checkNode(t, n, args, api.Tensor{}, nil, api.Tensor{}, want)
 }
@@ -77,51 +54,11 @@ func checkAll(t *testing.T, l []api.Node, in api.Tensor, params, want []api.Tens
 	}
 }
 
-// same tells whether a and b are one tensor.
-func same(a, b api.Tensor) bool {
-	return slices.Equal(a.Shape, b.Shape) && slices.Equal(a.Data, b.Data)
-}
-
-// fit is a node that fits to some tensors, and what it is reckoned to.
-type fit struct {
-	n    api.Node
-	args []api.Tensor
-	want api.Tensor
-}
-
-// fits are one of each op, of which outside tells what is given, and the parameters.
-func fits() []fit {
-	in, params := outside()
-	x := table(2, 3, one, 2*one, 3*one, 4*one, 5*one, 6*one)
-	y := table(2, 3, 2*one, -one, one, one/2, 0, -3*one)
-	return []fit{
-		{input(2, 3), nil, in},
-		{param(5, 2, 3), nil, params[5]},
-		{number(-4), nil, cell(-4)},
-		{of(api.OAdd), args(x, y), table(2, 3, 3*one, one, 4*one, 4*one+one/2, 5*one, 3*one)},
-		{of(api.OSub), args(x, y), table(2, 3, -one, 3*one, 2*one, 3*one+one/2, 5*one, 9*one)},
-		{of(api.OMul), args(x, y), table(2, 3, 2*one, -2*one, 3*one, 2*one, 0, -18*one)},
-		{of(api.ODiv), args(y, x), table(2, 3, 2*one, -one/2, 1431655765, one/8, 0, -one/2)},
-		{of(api.ONeg), args(y), table(2, 3, -2*one, one, -one, -one/2, 0, 3*one)},
-		{of(api.ORelu), args(y), table(2, 3, 2*one, 0, one, one/2, 0, 0)},
-		{of(api.OPow), args(y), table(2, 3, 4*one, one/2, 2*one, one+one/2, one, one/8)},
-		{of(api.OSqrt), args(x), table(2, 3, one, 6074000999, 7439101573, 2*one, 9603838834, 10520478337)},
-		{of(api.OMatmul), args(x, table(3, 1, 2*one, -one, one)), table(2, 1, 3*one, 9*one)},
-		{with(of(api.OReshape), 3, 2), args(y), table(3, 2, y.Data...)},
-		{of(api.OTurn), args(y), table(3, 2, 2*one, one/2, -one, 0, one, -3*one)},
-		{with(of(api.OSlice), 1, 1, 3), args(y), table(2, 2, -one, one, 0, -3*one)},
-		{with(of(api.OJoin), 1), args(x, y), table(2, 6, one, 2*one, 3*one, 2*one, -one, one, 4*one, 5*one, 6*one, one/2, 0, -3*one)},
-		{with(of(api.OSum), 1), args(y), row(2*one, -3*one+one/2)},
-		{with(of(api.OMean), 0), args(x), row(2*one+one/2, 3*one+one/2, 4*one+one/2)},
-		{with(of(api.OMax), 1), args(y), row(2*one, one/2)},
-	}
-}
-
 // P13.1: each op, of what fits.
 func TestNode(t *testing.T) {
-	in, params := outside()
-	for _, f := range fits() {
-		checkNode(t, f.n, f.args, in, params, f.want, api.OK)
+	in, params := sample.Outside()
+	for _, f := range sample.Fits() {
+		checkNode(t, f.N, f.Args, in, params, f.Want, api.OK)
 	}
 	for _, none := range [][]api.Tensor{nil, {}} {
 		checkNode(t, input(), none, cell(3), nil, cell(3), api.OK)
@@ -191,15 +128,6 @@ func TestNodeError(t *testing.T) {
 	}
 }
 
-// shapesOf are the shapes of tensors.
-func shapesOf(l []api.Tensor) [][]int {
-	var all [][]int
-	for _, x := range l {
-		all = append(all, x.Shape)
-	}
-	return all
-}
-
 // reckoned is what the layers below make of a node, whatever its op is.
 func reckoned(n api.Node, args []api.Tensor, in api.Tensor, params []api.Tensor) (api.Tensor, api.Errno) {
 	s, err := infer.Node(n, shapesOf(args))
@@ -242,21 +170,12 @@ func reckoned(n api.Node, args []api.Tensor, in api.Tensor, params []api.Tensor)
 	return reduce.Max(args[0], n.Nums[0])
 }
 
-// argsOf are all lists of so many tensors of some shapes, with small numbers, and with great ones.
-func argsOf(count int) [][]api.Tensor {
-	var all []api.Tensor
-	for _, s := range sample.Shapes(1, 2, 16) {
-		all = append(all, counted(s, one-2), filled(s, 3*one, -one, 0), filled(s, 1, most, least))
-	}
-	return slices.DeleteFunc(sample.Lists(count, all...), func(l []api.Tensor) bool { return len(l) != count })
-}
-
 // P13.1, P13.3: each op, with numbers that fit and that don't, of tensors of all of some shapes, is what the layers below make of it, of the shape that infer tells.
 func TestNodeAll(t *testing.T) {
-	in, params := outside()
+	in, params := sample.Outside()
 	told := map[api.Errno]int{}
 	for count, ops := range sample.Ops() {
-		all := argsOf(count)
+		all := sample.TensorsOf(count)
 		for _, op := range ops {
 			for _, nums := range sample.RightNums(op) {
 				n := with(of(op), nums...)
@@ -281,16 +200,16 @@ func TestNodeAll(t *testing.T) {
 // P13.1: an arg that may not be, at each place, is told ahead of how many there are, of Nums, of the op, and of what is given.
 func TestNodeTensor(t *testing.T) {
 	for _, wrong := range sample.WrongTensors() {
-		for _, f := range fits() {
-			for place := range f.args {
-				changed := slices.Clone(f.args)
+		for _, f := range sample.Fits() {
+			for place := range f.Args {
+				changed := slices.Clone(f.Args)
 				changed[place] = wrong
-				checkWrong(t, f.n, changed, api.ErrTensor)
-				checkWrong(t, with(f.n, 1, 2, 3, 4, 5), changed, api.ErrTensor)
-				checkWrong(t, f.n, append(changed, cell(1)), api.ErrTensor)
+				checkWrong(t, f.N, changed, api.ErrTensor)
+				checkWrong(t, with(f.N, 1, 2, 3, 4, 5), changed, api.ErrTensor)
+				checkWrong(t, f.N, append(changed, cell(1)), api.ErrTensor)
 			}
-			checkWrong(t, f.n, append(slices.Clone(f.args), wrong), api.ErrTensor)
-			checkWrong(t, f.n, slices.Repeat(args(wrong), 100), api.ErrTensor)
+			checkWrong(t, f.N, append(slices.Clone(f.Args), wrong), api.ErrTensor)
+			checkWrong(t, f.N, slices.Repeat(args(wrong), 100), api.ErrTensor)
 		}
 		for _, op := range []int{0, -1, 4, 99, least, most} {
 			checkWrong(t, of(op), args(wrong), api.ErrTensor)
@@ -301,18 +220,18 @@ func TestNodeTensor(t *testing.T) {
 
 // P13.1: what infer does not fit, which is told ahead of what is given, and of numbers that have an error: too few args, or too many; Nums; no op.
 func TestNodeShape(t *testing.T) {
-	for _, f := range fits() {
-		for count := range f.args {
-			checkWrong(t, f.n, f.args[:count], api.ErrShape)
+	for _, f := range sample.Fits() {
+		for count := range f.Args {
+			checkWrong(t, f.N, f.Args[:count], api.ErrShape)
 		}
 		for _, x := range []api.Tensor{cell(least), row(most), table(2, 3, 1, 2, 3, 4, 5, 6)} {
-			checkWrong(t, f.n, append(slices.Clone(f.args), x), api.ErrShape)
+			checkWrong(t, f.N, append(slices.Clone(f.Args), x), api.ErrShape)
 			for _, count := range []int{3, 4, 255, 256, 257, 10000} {
-				checkWrong(t, f.n, slices.Repeat(args(x), count), api.ErrShape)
+				checkWrong(t, f.N, slices.Repeat(args(x), count), api.ErrShape)
 			}
 		}
-		for _, nums := range sample.WrongNums(f.n.Op) {
-			checkWrong(t, with(f.n, nums...), f.args, api.ErrShape)
+		for _, nums := range sample.WrongNums(f.N.Op) {
+			checkWrong(t, with(f.N, nums...), f.Args, api.ErrShape)
 		}
 	}
 	for _, op := range sample.WrongOps() {
@@ -358,7 +277,7 @@ func TestNodeInput(t *testing.T) {
 
 // P13.1: of each parameter, with as many as there may be, with more, and with fewer, by its place.
 func TestNodeParam(t *testing.T) {
-	_, params := outside()
+	_, params := sample.Outside()
 	for p := range params {
 		for count := range len(params) + 1 {
 			if p < count {
@@ -387,16 +306,16 @@ func TestNodeParam(t *testing.T) {
 
 // P13.1: what is given, and parameters, do not matter to other ops; nor does whom a node names, since these are told.
 func TestNodeBeside(t *testing.T) {
-	in, params := outside()
-	for _, f := range fits() {
-		if f.n.Op != api.OInput && f.n.Op != api.OParam {
+	in, params := sample.Outside()
+	for _, f := range sample.Fits() {
+		if f.N.Op != api.OInput && f.N.Op != api.OParam {
 			for _, wrong := range sample.WrongTensors() {
-				checkNode(t, f.n, f.args, wrong, args(wrong, cell(1), wrong), f.want, api.OK)
+				checkNode(t, f.N, f.Args, wrong, args(wrong, cell(1), wrong), f.Want, api.OK)
 			}
 		}
 		for _, named := range [][]int{nil, {}, {0}, {0, 0}, {7, -1, 3}, {least, most}, make([]int, 10000)} {
-			f.n.Args = named
-			checkNode(t, f.n, f.args, in, params, f.want, api.OK)
+			f.N.Args = named
+			checkNode(t, f.N, f.Args, in, params, f.Want, api.OK)
 		}
 	}
 }
@@ -429,7 +348,7 @@ func TestAll(t *testing.T) {
 
 // P13.2: what may not be a graph, whatever is given.
 func TestAllGraph(t *testing.T) {
-	in, params := outside()
+	in, params := sample.Outside()
 	for _, l := range sample.WrongGraphs() {
 		checkAll(t, l, in, params, nil, -1, api.ErrGraph)
 		checkAll(t, l, api.Tensor{}, nil, nil, -1, api.ErrGraph)
@@ -622,52 +541,37 @@ func TestAllUnnamed(t *testing.T) {
 	}
 }
 
-// roomy is t, in new lists that have spare room, and these lists with it.
-func roomy(t api.Tensor) (api.Tensor, [][]int) {
-	s, data := append(slices.Clone(t.Shape), 7, 7), append(slices.Clone(t.Data), 9, 9)
-	return sample.Of(s[:len(t.Shape)], data[:len(t.Data)]...), [][]int{s, data}
-}
-
 // R4: what is handed in is left as it was, its spare room too, and shares nothing with what is answered.
 func TestNodeMemory(t *testing.T) {
-	for _, f := range fits() {
-		in, params := outside()
-		nums, named := append(slices.Clone(f.n.Nums), 7, 7), []int{3, 4, 9}
-		n := api.Node{Op: f.n.Op, Args: named[:2], Nums: nums[:len(f.n.Nums)]}
-		in, handed := roomy(in)
+	for _, f := range sample.Fits() {
+		in, params := sample.Outside()
+		nums, named := append(slices.Clone(f.N.Nums), 7, 7), []int{3, 4, 9}
+		n := api.Node{Op: f.N.Op, Args: named[:2], Nums: nums[:len(f.N.Nums)]}
+		in, handed := sample.Roomy(in)
 		handed = append(handed, nums, named)
 		var lists [][]int
-		params[5], lists = roomy(params[5])
+		params[5], lists = sample.Roomy(params[5])
 		handed = append(handed, lists...)
 		var all []api.Tensor
-		for _, x := range f.args {
-			x, lists = roomy(x)
+		for _, x := range f.Args {
+			x, lists = sample.Roomy(x)
 			all, handed = append(all, x), append(handed, lists...)
 		}
 		all = append(all, cell(3), cell(4))
 		before := fmt.Sprint(all, params)
 		sample.Apart(t, fmt.Sprintf("op %d", n.Op), func() (api.Tensor, api.Errno) {
-			return eval.Node(n, all[:len(f.args)], in, params[:6])
-		}, f.want, handed...)
+			return eval.Node(n, all[:len(f.Args)], in, params[:6])
+		}, f.Want, handed...)
 		if after := fmt.Sprint(all, params); after != before {
 			t.Errorf("op %d: what was handed in is now %s, not %s", n.Op, after, before)
 		}
 	}
 }
 
-// listsOf are the shape and the numbers of each tensor.
-func listsOf(l []api.Tensor) [][]int {
-	var all [][]int
-	for _, x := range l {
-		all = append(all, x.Shape, x.Data)
-	}
-	return all
-}
-
 // R4: what is handed in is left as it was, its spare room too, and shares nothing with the tensors of a graph, nor do these with each other.
 func TestAllMemory(t *testing.T) {
-	in, handed := roomy(row(one, 4*one))
-	w, lists := roomy(row(5, 6))
+	in, handed := sample.Roomy(row(one, 4*one))
+	w, lists := sample.Roomy(row(5, 6))
 	params := args(api.Tensor{}, w, cell(3))
 	size, both := []int{2, 1, 7}, []int{0, 1, 9}
 	handed = append(handed, size, both)
@@ -681,7 +585,7 @@ func TestAllMemory(t *testing.T) {
 	for range 3 {
 		checkAll(t, l, in, params[:2], want, -1, api.OK)
 		all, _, _ := eval.All(l, in, params[:2])
-		sample.ListsApart(t, listsOf(all), listsOf(want))
+		sample.ListsApart(t, sample.ListsOf(all), sample.ListsOf(want))
 		clear(all[:cap(all)])
 		if after := fmt.Sprint(room, handed, params); after != before {
 			t.Errorf("what was handed in is now %s, not %s", after, before)

@@ -182,6 +182,83 @@ func TestSamples(t *testing.T) {
 	}
 }
 
+// There is one fit of each op, of tensors that may be, and behind nodes of which it may be.
+func TestFits(t *testing.T) {
+	in, params := Outside()
+	fits := map[int]int{}
+	for _, f := range Fits() {
+		fits[f.N.Op]++
+		if graph.Arity(f.N.Op) != len(f.Args) || !tensor.Check(f.Want) {
+			t.Errorf("%v is of %d tensors, and comes to %v", f.N, len(f.Args), f.Want)
+		}
+		n := With(Node(f.N.Op, []int{0, 1}[:len(f.Args)]...), f.N.Nums...)
+		if !graph.Check(append(Three(), n)) {
+			t.Errorf("%v may not be", n)
+		}
+		for _, x := range f.Args {
+			if !tensor.Check(x) {
+				t.Errorf("%v is of %v", f.N, x)
+			}
+		}
+	}
+	for _, op := range slices.Concat(Ops()[0], Ops()[1], Ops()[2]) {
+		if fits[op] != 1 {
+			t.Errorf("of op %d there are %d", op, fits[op])
+		}
+	}
+	for _, x := range append(params, in) {
+		if !tensor.Check(x) || !slices.Equal(x.Shape, in.Shape) {
+			t.Errorf("outside is %v", x)
+		}
+	}
+}
+
+func TestTensorsOf(t *testing.T) {
+	for count, long := range []int{1, 96, 96 * 96} {
+		all := TensorsOf(count)
+		if len(all) != long {
+			t.Errorf("of %d there are %d; want %d", count, len(all), long)
+		}
+		for _, l := range all {
+			if len(l) != count || len(ShapesOf(l)) != count {
+				t.Errorf("%v are %d, not %d", l, len(l), count)
+			}
+		}
+	}
+}
+
+// What is the same has the same shape and the same numbers, whether a list is nil or empty.
+func TestSame(t *testing.T) {
+	for _, c := range []struct {
+		a, b api.Tensor
+		same bool
+	}{
+		{Cell(1), Of([]int{}, 1), true}, {api.Tensor{}, Of([]int{}, []int{}...), true}, {Table(1, 2, 3, 4), Of([]int{1, 2}, 3, 4), true},
+		{Cell(1), Row(1), false}, {Table(1, 2, 3, 4), Table(2, 1, 3, 4), false}, {Row(1, 2), Row(1, 3), false}, {Row(1, 2), Of([]int{2}, 1), false},
+	} {
+		if Same(c.a, c.b) != c.same {
+			t.Errorf("%v and %v: not %v", c.a, c.b, c.same)
+		}
+	}
+}
+
+// A roomy tensor is the same one, in the lists beside it, and not in its own.
+func TestRoomy(t *testing.T) {
+	for _, x := range Tensors(Cell(5), Row(1, 2), Table(2, 2, 1, 2, 3, 4)) {
+		got, lists := Roomy(x)
+		if !Same(got, x) || cap(got.Shape) == len(got.Shape) || cap(got.Data) == len(got.Data) || fmt.Sprint(ListsOf(Tensors(got))) != fmt.Sprint([][]int{x.Shape, x.Data}) {
+			t.Errorf("%v is %v", x, got)
+		}
+		before := fmt.Sprint(x)
+		for _, l := range lists {
+			Overwrite(l)
+		}
+		if Same(got, x) || fmt.Sprint(x) != before {
+			t.Errorf("written over, %v is %v, and was %s", x, got, before)
+		}
+	}
+}
+
 // Nodes of each op may be, and there are numbers of each that may be, and others that may not.
 func TestNodes(t *testing.T) {
 	for count, ops := range Ops() {
