@@ -360,48 +360,27 @@ func TestAllGraph(t *testing.T) {
 	}
 }
 
-// ahead are nodes that have no error, and of which input, and of which parameters.
-func ahead() ([]api.Node, api.Tensor, []api.Tensor) {
-	l := graphOf(input(2), number(0), number(-2), number(least), param(1, 2), param(2), with(of(api.OReshape, 4), 1, 2), with(of(api.OReshape, 4), 2, 1))
-	return l, row(one, 2*one), args(row(one), row(most, most), cell(1), row(1), api.Tensor{}, row(1, 2), sample.Of([]int{2}, 1))
-}
-
-// failure is a node that has an error behind those that ahead tells, and which one.
-type failure struct {
-	n   api.Node
-	err api.Errno
-}
-
-// failures are some of each error.
-func failures() []failure {
-	return []failure{
-		{of(api.ODiv, 0, 1), api.ErrZero}, {of(api.OSqrt, 2), api.ErrNeg}, {of(api.OAdd, 4, 5), api.ErrOver}, {of(api.OSub, 2, 4), api.ErrOver}, {of(api.OMul, 4, 4), api.ErrOver}, {of(api.ODiv, 4, 5), api.ErrOver}, {of(api.ONeg, 3), api.ErrOver},
-		{of(api.OPow, 4), api.ErrOver}, {of(api.OMatmul, 6, 7), api.ErrOver}, {with(of(api.OSum, 4), 0), api.ErrOver}, {with(of(api.OMean, 4), 0), api.ErrOver},
-		{param(0, 2), api.ErrInput}, {param(3, 1, 1), api.ErrInput}, {param(4, 2), api.ErrInput}, {param(5, 2, 1), api.ErrInput}, {param(6, 2), api.ErrInput}, {param(7), api.ErrInput},
-	}
-}
-
 // P13.2: a node that has an error, at each place of a graph, whether the last node hangs on it or not; of two, the first one; what does not fit is told ahead of it.
 func TestAllFirst(t *testing.T) {
-	first, in, params := ahead()
-	for _, f := range failures() {
+	first, in, params := sample.Ahead()
+	for _, f := range sample.Failures() {
 		for place := len(first); place < api.MaxNodes; place++ {
 			l := append(slices.Clone(first), slices.Repeat(graphOf(of(api.ONeg, 1)), place-len(first))...)
-			l = append(l, f.n)
-			checkAll(t, l, in, params, nil, place, f.err)
+			l = append(l, f.N)
+			checkAll(t, l, in, params, nil, place, f.Err)
 			if place == api.MaxNodes-1 {
 				continue
 			}
 			for len(l) < api.MaxNodes {
 				l = append(l, of(api.OTurn, place))
 			}
-			checkAll(t, l, in, params, nil, place, f.err)
+			checkAll(t, l, in, params, nil, place, f.Err)
 			last := api.MaxNodes - 1
 			l[last] = number(4)
-			checkAll(t, l, in, params, nil, place, f.err)
-			for _, other := range failures() {
-				l[last] = other.n
-				checkAll(t, l, in, params, nil, place, f.err)
+			checkAll(t, l, in, params, nil, place, f.Err)
+			for _, other := range sample.Failures() {
+				l[last] = other.N
+				checkAll(t, l, in, params, nil, place, f.Err)
 			}
 			l[last] = with(of(api.OSum, 1), 0)
 			checkAll(t, l, in, params, nil, last, api.ErrShape)
@@ -496,7 +475,7 @@ func TestAllGrown(t *testing.T) {
 
 // long is a longest graph that fails at its end, behind nodes that do not, and what it is of.
 func long() ([]api.Node, api.Tensor, []api.Tensor) {
-	l, in, params := ahead()
+	l, in, params := sample.Ahead()
 	for len(l) < api.MaxNodes-3 {
 		last := len(l) - 1
 		l = append(l, of(api.OTurn, last-1), with(of(api.OSlice, last), 0, 0, 1), of(api.OAdd, 0, 2), with(of(api.OJoin, last+3, 0), 0))

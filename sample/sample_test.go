@@ -7,6 +7,7 @@ import (
 
 	"fuller/api"
 	"fuller/graph"
+	"fuller/infer"
 	"fuller/tensor"
 )
 
@@ -327,6 +328,26 @@ func TestWrongGraphs(t *testing.T) {
 	for right := range api.MaxNodes + 1 {
 		if first[right] == 0 {
 			t.Errorf("none is wrong from node %d on", right)
+		}
+	}
+}
+
+// Each node that fails fits behind those ahead, none of which is the last there may be, and there are some of each error of a node that fits.
+func TestFailures(t *testing.T) {
+	ahead, in, params := Ahead()
+	if !tensor.Check(in) || len(params) >= api.MaxParams || len(ahead) > api.MaxNodes/2 {
+		t.Errorf("%d nodes are ahead, of %v, and of %d parameters", len(ahead), in, len(params))
+	}
+	times := map[api.Errno]int{}
+	for _, f := range Failures() {
+		times[f.Err]++
+		if _, node, err := infer.Shapes(append(slices.Clone(ahead), f.N)); err != api.OK {
+			t.Errorf("%v does not fit: %d, %d", f.N, node, err)
+		}
+	}
+	for _, err := range []api.Errno{api.ErrOver, api.ErrZero, api.ErrNeg, api.ErrInput} {
+		if times[err] == 0 {
+			t.Errorf("failures are %v, none of them %d", times, err)
 		}
 	}
 }
