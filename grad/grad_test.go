@@ -6,14 +6,13 @@ import (
 	"testing"
 
 	"fuller/api"
-	"fuller/elem"
 	"fuller/eval"
 	"fuller/fix"
 	"fuller/grad"
 	"fuller/graph"
 	"fuller/infer"
 	"fuller/sample"
-	"fuller/vjp"
+	"fuller/words"
 )
 
 const (
@@ -121,9 +120,6 @@ func TestAllOps(t *testing.T) {
 	}
 }
 
-// ends are numbers whose sums are too great in one order, and not in another one.
-var ends = []int{most, least, 1, -1, 0}
-
 // added is what numbers come to, each added behind those ahead of it, and where that is too great; -1, if nowhere.
 func added(numbers ...int) (int, int) {
 	sum := 0
@@ -136,114 +132,77 @@ func added(numbers ...int) (int, int) {
 	return sum, -1
 }
 
-// weighed are nodes, each of which is 0, with what the loss, that is 0 too, rises by with each: the products, one a node, and their sums.
-func weighed(l []api.Node, nodes, by []int) []api.Node {
-	for _, n := range by {
-		l = append(l, number(n))
-	}
-	first := len(l)
-	for place, node := range nodes {
-		l = append(l, of(api.OMul, node, first-len(by)+place))
-	}
-	for place := 1; place < len(nodes); place++ {
-		ahead := len(l) - 1
-		if place == 1 {
-			ahead = first
-		}
-		l = append(l, of(api.OAdd, ahead, first+place))
-	}
-	return l
-}
-
 // P15.1: what hangs on a node is added from the last one that uses it on, and is too great at the one that is added.
 func TestAllUsers(t *testing.T) {
-	for _, by := range sample.Lists(4, ends...)[1:] {
-		l := weighed(graphOf(param(5)), make([]int, len(by)), by)
-		params := slices.Repeat(args(cell(0)), 6)
+	for _, by := range sample.Lists(4, sample.Ends()...)[1:] {
+		c := sample.UsedBy(by)
 		last := slices.Clone(by)
 		slices.Reverse(last)
 		sum, place := added(last...)
 		if place < 0 {
-			checkAll(t, l, api.Tensor{}, params, slopes{5: cell(sum)}.listed(), 0, -1, api.OK)
+			checkAll(t, c.L, c.In, c.Params, slopes{5: cell(sum)}.listed(), 0, -1, api.OK)
 		} else {
 			// behind the parameter, and the numbers
-			checkWrong(t, l, api.Tensor{}, params, 2*len(by)-place, api.ErrOver)
+			checkWrong(t, c.L, c.In, c.Params, 2*len(by)-place, api.ErrOver)
 		}
 	}
 }
 
 // P15.1: slopes are added from the last node on that names the parameter, and are too great at the one that is added.
 func TestAllNamed(t *testing.T) {
-	for _, by := range sample.Lists(4, ends...)[1:] {
-		var l []api.Node
-		var nodes []int
-		for node := range by {
-			l, nodes = append(l, param(5)), append(nodes, node)
-		}
-		l = weighed(l, nodes, by)
-		params := slices.Repeat(args(cell(0)), 6)
+	for _, by := range sample.Lists(4, sample.Ends()...)[1:] {
+		c := sample.NamedBy(by)
 		last := slices.Clone(by)
 		slices.Reverse(last)
 		sum, place := added(last...)
 		if place < 0 {
-			checkAll(t, l, api.Tensor{}, params, slopes{5: cell(sum)}.listed(), 0, -1, api.OK)
+			checkAll(t, c.L, c.In, c.Params, slopes{5: cell(sum)}.listed(), 0, -1, api.OK)
 		} else {
-			checkWrong(t, l, api.Tensor{}, params, len(by)-1-place, api.ErrOver)
+			checkWrong(t, c.L, c.In, c.Params, len(by)-1-place, api.ErrOver)
 		}
 	}
 }
 
 // P15.1: what hangs on a node is added ahead of being added to its parameter's slopes.
 func TestAllNamedAndUsed(t *testing.T) {
-	for _, by := range sample.Lists(3, ends...) {
-		if len(by) != 3 {
-			continue
-		}
-		// The first of two nodes is used twice; numbers are nodes 2 to 4, products 5 to 7.
-		l := weighed(graphOf(param(0), param(0)), []int{0, 1, 0}, by)
+	for _, by := range sample.Threes() {
+		c := sample.NamedTwice(by)
 		first, over := added(by[2], by[0])
 		sum, both := added(by[1], first)
 		switch {
 		case over >= 0:
-			checkWrong(t, l, api.Tensor{}, args(cell(0)), 5, api.ErrOver)
+			checkWrong(t, c.L, c.In, c.Params, 5, api.ErrOver)
 		case both >= 0:
-			checkWrong(t, l, api.Tensor{}, args(cell(0)), 0, api.ErrOver)
+			checkWrong(t, c.L, c.In, c.Params, 0, api.ErrOver)
 		default:
-			checkAll(t, l, api.Tensor{}, args(cell(0)), slopes{0: cell(sum)}.listed(), 0, -1, api.OK)
+			checkAll(t, c.L, c.In, c.Params, slopes{0: cell(sum)}.listed(), 0, -1, api.OK)
 		}
 	}
 }
 
 // P15.1: of a node that is both Args of another one, what hangs on it behind that is there first, then for the first Arg, then for the second one.
 func TestAllBoth(t *testing.T) {
-	l := graphOf(param(0, 1), input(2), param(1), with(of(api.OJoin, 0, 0), 0), of(api.OMul, 3, 1), with(of(api.OSum, 4), 0), of(api.OMul, 0, 2), of(api.OAdd, 5, 6))
-	for _, by := range sample.Lists(3, ends...) {
-		if len(by) != 3 {
-			continue
-		}
-		params := args(row(0), cell(by[0]))
-		sum, over := added(by...)
+	for _, by := range sample.Threes() {
+		c := sample.JoinedTwice(by)
+		sum, over := added(by[:]...)
 		if over < 0 {
-			checkAll(t, l, row(by[1:]...), params, slopes{0: row(sum), 1: cell(0)}.listed(), 0, -1, api.OK)
+			checkAll(t, c.L, c.In, c.Params, slopes{0: row(sum), 1: cell(0)}.listed(), 0, -1, api.OK)
 		} else {
-			checkWrong(t, l, row(by[1:]...), params, 3, api.ErrOver)
+			checkWrong(t, c.L, c.In, c.Params, 3, api.ErrOver)
 		}
 	}
 	for _, c := range []struct{ op, ahead, by, want int }{
 		{api.OSub, most, -1, most}, {api.OSub, least, 1, least}, {api.OSub, 5, -most, 5}, {api.OSub, -5, most, -5}, {api.OAdd, -1, 1 << 62, most}, {api.OAdd, 0, -1 << 62, least}, {api.OAdd, 1, -1 << 62, least + 1},
 	} {
-		checkAll(t, both(c.op, c.ahead, c.by), api.Tensor{}, args(cell(0)), slopes{0: cell(c.want)}.listed(), 0, -1, api.OK)
+		b := sample.Both(c.op, c.ahead, c.by)
+		checkAll(t, b.L, b.In, b.Params, slopes{0: cell(c.want)}.listed(), 0, -1, api.OK)
 	}
 	for _, c := range []struct{ op, ahead, by int }{
 		{api.OSub, most, 1}, {api.OSub, least, -1}, {api.OSub, 5, most}, {api.OSub, 0, least}, {api.OAdd, 0, 1 << 62}, {api.OAdd, -1, -1 << 62}, {api.OAdd, most, 1}, {api.OAdd, 1, most},
 	} {
-		checkWrong(t, both(c.op, c.ahead, c.by), api.Tensor{}, args(cell(0)), 3, api.ErrOver)
+		b := sample.Both(c.op, c.ahead, c.by)
+		checkWrong(t, b.L, b.In, b.Params, 3, api.ErrOver)
 	}
-}
-
-// both is a graph whose node 3 is an op of a parameter twice, and is weighed; behind it the parameter is weighed alone.
-func both(op, ahead, by int) []api.Node {
-	return graphOf(param(0), number(ahead), number(by), of(op, 0, 0), of(api.OMul, 3, 2), of(api.OMul, 0, 1), of(api.OAdd, 4, 5))
 }
 
 // P15.1: what may not be a graph, whatever is given.
@@ -321,42 +280,21 @@ func TestAllLoss(t *testing.T) {
 	}
 }
 
-// turnings are nodes, of one that is 0 and of the node 1, that is 1 part, that come to 0, and that can't be turned back; and why not.
-func turnings(node int) []sample.Failure {
-	return []sample.Failure{{N: of(api.OSqrt, node), Err: api.ErrZero}, {N: of(api.ODiv, node, 1), Err: api.ErrOver}}
-}
-
 // P15.1: nodes that can't be turned back, at each two places of the longest graph: the last one is told, if it is live.
 func TestAllBack(t *testing.T) {
-	params := args(api.Tensor{}, cell(0))
-	chain := func(changed map[int]int, skipped int) ([]api.Node, []api.Errno) {
-		l, errs := graphOf(param(1), number(1), of(api.OTurn, 0)), make([]api.Errno, api.MaxNodes)
-		for node := 3; node < api.MaxNodes; node++ {
-			ahead := node - 1
-			if ahead == skipped {
-				ahead--
-			}
-			n := sample.Failure{N: of(api.OTurn, ahead)}
-			if kind, is := changed[node]; is {
-				n = turnings(ahead)[kind]
-			}
-			l, errs[node] = append(l, n.N), n.Err
-		}
-		return l, errs
-	}
 	for a := 3; a < api.MaxNodes; a++ {
 		for b := 3; b < api.MaxNodes; b++ {
 			for _, kinds := range [][]int{{0, 0}, {0, 1}, {1, 0}, {1, 1}} {
-				l, errs := chain(map[int]int{a: kinds[0], b: kinds[1]}, -1)
-				checkWrong(t, l, api.Tensor{}, params, max(a, b), errs[max(a, b)])
+				c, errs := sample.Chain(map[int]int{a: kinds[0], b: kinds[1]}, -1)
+				checkWrong(t, c.L, c.In, c.Params, max(a, b), errs[max(a, b)])
 				if max(a, b) == api.MaxNodes-1 {
 					continue
 				}
-				l, errs = chain(map[int]int{a: kinds[0], b: kinds[1]}, max(a, b))
+				c, errs = sample.Chain(map[int]int{a: kinds[0], b: kinds[1]}, max(a, b))
 				if a == b {
-					checkAll(t, l, api.Tensor{}, params, slopes{1: cell(one)}.listed(), 0, -1, api.OK)
+					checkAll(t, c.L, c.In, c.Params, slopes{1: cell(one)}.listed(), 0, -1, api.OK)
 				} else {
-					checkWrong(t, l, api.Tensor{}, params, min(a, b), errs[min(a, b)])
+					checkWrong(t, c.L, c.In, c.Params, min(a, b), errs[min(a, b)])
 				}
 			}
 		}
@@ -365,7 +303,7 @@ func TestAllBack(t *testing.T) {
 
 // P15.1: a live node is turned back, though 0 hangs on it.
 func TestAllBackZero(t *testing.T) {
-	for _, f := range turnings(0) {
+	for _, f := range sample.Turnings(0) {
 		l := graphOf(param(0), number(1), f.N, number(0), of(api.OMul, 2, 3), of(api.OSub, 4, 4))
 		if f.Err == api.ErrZero {
 			checkWrong(t, l, api.Tensor{}, args(cell(0)), 2, f.Err)
@@ -385,127 +323,6 @@ func TestAllExamples(t *testing.T) {
 	checkWrong(t, graphOf(param(0, 2), of(api.ONeg, 0)), api.Tensor{}, args(row(1, 2)), 1, api.ErrLoss)
 }
 
-// words are a graph, and what its nodes came to, of which the chapter's words are taken as they stand.
-type words struct {
-	l    []api.Node
-	vals []api.Tensor
-}
-
-// total is what tensors come to, each added behind those ahead of it; empty of none.
-func total(all []api.Tensor) (api.Tensor, api.Errno) {
-	if len(all) == 0 {
-		return api.Tensor{}, api.OK
-	}
-	sum := all[0]
-	for _, x := range all[1:] {
-		var err api.Errno
-		if sum, err = elem.Two(api.OAdd, sum, x); err != api.OK {
-			return api.Tensor{}, err
-		}
-	}
-	return sum, api.OK
-}
-
-// down are the live nodes from a place on, the last one ahead.
-func (w words) down(from int) []int {
-	live := slices.DeleteFunc(graph.Live(w.l), func(node int) bool { return node < from })
-	slices.Reverse(live)
-	return live
-}
-
-// back is what a node is turned back to.
-func (w words) back(node int) ([]api.Tensor, api.Errno) {
-	g, err := w.hang(node, node+1)
-	if err != api.OK {
-		return nil, err
-	}
-	var all []api.Tensor
-	for _, arg := range w.l[node].Args {
-		all = append(all, w.vals[arg])
-	}
-	return vjp.Back(w.l[node], all, w.vals[node], g)
-}
-
-// hang is what hangs on a node, of those that use it from a place on.
-func (w words) hang(node, from int) (api.Tensor, api.Errno) {
-	if node == len(w.l)-1 {
-		return filled(w.vals[node].Shape, one), api.OK
-	}
-	var parts []api.Tensor
-	for _, user := range w.down(from) {
-		if !slices.Contains(w.l[user].Args, node) {
-			continue
-		}
-		back, err := w.back(user)
-		if err != api.OK {
-			return api.Tensor{}, err
-		}
-		for place, arg := range w.l[user].Args {
-			if arg == node {
-				parts = append(parts, back[place])
-			}
-		}
-	}
-	return total(parts)
-}
-
-// slopes are those of a parameter, of the nodes that name it from a place on.
-func (w words) slopes(p, from int) (api.Tensor, api.Errno) {
-	var parts []api.Tensor
-	for _, node := range w.down(from) {
-		if w.l[node].Op == api.OParam && w.l[node].Nums[0] == p {
-			g, err := w.hang(node, node+1)
-			if err != api.OK {
-				return api.Tensor{}, err
-			}
-			parts = append(parts, g)
-		}
-	}
-	return total(parts)
-}
-
-// fails is why a node can't be turned back, or what it is turned back to can't be added.
-func (w words) fails(node int) api.Errno {
-	if w.l[node].Op == api.OParam {
-		_, err := w.slopes(w.l[node].Nums[0], node)
-		return err
-	}
-	if _, err := w.back(node); err != api.OK {
-		return err
-	}
-	for _, arg := range w.l[node].Args {
-		if _, err := w.hang(arg, node); err != api.OK {
-			return err
-		}
-	}
-	return api.OK
-}
-
-// all is what All is to answer, of a graph that is reckoned to vals.
-func (w words) all() ([]api.Tensor, int, int, api.Errno) {
-	last := len(w.l) - 1
-	if len(w.vals[last].Data) != 1 {
-		return nil, 0, last, api.ErrLoss
-	}
-	for _, node := range w.down(0) {
-		if err := w.fails(node); err != api.OK {
-			return nil, 0, node, err
-		}
-	}
-	want := slopes{}
-	for node, n := range w.l {
-		if n.Op != api.OParam {
-			continue
-		}
-		p := n.Nums[0]
-		want[p], _ = w.slopes(p, 0)
-		if len(want[p].Data) == 0 {
-			want[p] = filled(w.vals[node].Shape, 0)
-		}
-	}
-	return want.listed(), w.vals[last].Data[0], -1, api.OK
-}
-
 // told is which error a graph had, and whether that was on the way back.
 type told struct {
 	err  api.Errno
@@ -513,16 +330,12 @@ type told struct {
 }
 
 // checkWords holds what All answers against what the chapter's words make of it, and tells what that is.
-func checkWords(t *testing.T, l []api.Node, in api.Tensor, params []api.Tensor) told {
+func checkWords(t *testing.T, c sample.Job) told {
 	t.Helper()
-	vals, node, err := eval.All(l, in, params)
-	if err != api.OK {
-		checkWrong(t, l, in, params, node, err)
-		return told{err, false}
-	}
-	want, loss, node, err := words{l, vals}.all()
-	checkAll(t, l, in, params, want, loss, node, err)
-	return told{err, true}
+	_, _, forth := eval.All(c.L, c.In, c.Params)
+	want, loss, node, err := words.Slopes(c)
+	checkAll(t, c.L, c.In, c.Params, want, loss, node, err)
+	return told{err, forth == api.OK}
 }
 
 // checkTold holds that each of some was told.
@@ -537,170 +350,72 @@ func checkTold(t *testing.T, times map[told]int, all ...told) {
 
 // P15.1: all graphs of up to three nodes, of numbers alone, behind what is given and a parameter.
 func TestAllGrown(t *testing.T) {
-	choice := func(node int) []api.Node {
-		all := graphOf(param(1), param(0))
-		for a := range node {
-			all = append(all, of(api.OSqrt, a))
-			for b := range node {
-				all = append(all, of(api.OSub, a, b), of(api.OMul, a, b), of(api.ODiv, a, b))
-			}
-		}
-		return all
-	}
-	given := []int{2 * one, 1, 0, one / 2, 1 << 47, 3, -1 << 33}
-	held := []int{one, 0, 3 * one, 1 << 48, 1 << 20, -one}
 	times := map[told]int{}
-	at := 0
-	for count := range 4 {
-		for _, l := range sample.Grown(graphOf(input(), param(1)), count, choice) {
-			at++
-			times[checkWords(t, l, cell(given[at%len(given)]), args(cell(5*one), cell(held[at%len(held)])))]++
-		}
+	for _, c := range words.GrownNumbers(3) {
+		times[checkWords(t, c)]++
 	}
 	checkTold(t, times, told{api.OK, true}, told{api.ErrOver, false}, told{api.ErrOver, true}, told{api.ErrZero, false}, told{api.ErrZero, true}, told{api.ErrNeg, false})
 }
 
-// closed is l, and nodes behind it that take each side of the last one together; l alone, if it does not fit.
-func closed(l []api.Node) []api.Node {
-	shapes, _, err := infer.Shapes(l)
-	if err != api.OK {
-		return l
-	}
-	longer := slices.Clone(l)
-	for range shapes[len(l)-1] {
-		longer = append(longer, with(of(api.OSum, len(longer)-1), 0))
-	}
-	return longer
-}
-
-// P15.1, P15.2: all graphs of two nodes of eleven kinds behind what is given and a parameter that are tables; as they are, and with their numbers taken together.
+// P15.1, P15.2: all graphs of two nodes of thirteen kinds behind what is given and a parameter that are tables; as they are, and with their numbers taken together.
 func TestAllTables(t *testing.T) {
-	choice := func(node int) []api.Node {
-		all := graphOf(param(1, 2, 3), param(2, 3))
-		for a := range node {
-			all = append(all, of(api.OTurn, a), of(api.ORelu, a), of(api.OSqrt, a), with(of(api.OSum, a), 0), with(of(api.OMean, a), 0), with(of(api.OMax, a), 0), with(of(api.OSlice, a), 0, 1, 2), with(of(api.OReshape, a), 3, 2))
-			for b := range node {
-				all = append(all, of(api.OAdd, a, b), of(api.OMul, a, b), of(api.ODiv, a, b), of(api.OMatmul, a, b), with(of(api.OJoin, a, b), 0))
-			}
-		}
-		return all
-	}
-	ahead := graphOf(input(2, 3), param(1, 2, 3), of(api.OTurn, 0))
-	in := table(2, 3, one, -2*one, 3*one, one/2, 5*one, 6*one)
-	tables := args(table(2, 3, 4*one, one, 9*one, 0, 3*one, 2*one), table(2, 3, -one, 1<<46, 0, 0, one, 1), table(2, 3, most, least, 1, one, -1, 7))
 	times := map[told]int{}
-	for count := range 3 {
-		for at, l := range sample.Grown(ahead, count, choice) {
-			params := args(api.Tensor{}, tables[at%len(tables)], row(2*one, one, one/4))
-			times[checkWords(t, l, in, params)]++
-			times[checkWords(t, closed(l), in, params)]++
-		}
+	for _, c := range words.GrownTables() {
+		times[checkWords(t, c)]++
 	}
 	checkTold(t, times, told{api.OK, true}, told{api.ErrOver, false}, told{api.ErrOver, true}, told{api.ErrZero, false}, told{api.ErrZero, true}, told{api.ErrNeg, false}, told{api.ErrShape, false}, told{api.ErrLoss, true})
 }
 
-// even are graphs whose losses rise evenly, or as a square does, with each number of their parameters, as far as those next to them; of halves, so that nothing is floored.
-func even() []job {
-	apart := func(s ...int) api.Tensor {
-		x := counted(s, 0)
-		for place := range x.Data {
-			x.Data[place] = (place*7%13-6)*one + one/2
-		}
-		return x
-	}
-	halves := func(s ...int) api.Tensor { return filled(s, one, -2*one, one/2, 4*one, -one/4) }
-	sum := func(node int) api.Node { return with(of(api.OSum, node), 0) }
-	return []job{
-		{l: graphOf(input(2, 3), param(0, 3, 2), of(api.OMatmul, 0, 1), param(1, 2), of(api.OAdd, 2, 3), param(3, 2, 2), of(api.OSub, 4, 5), of(api.OMul, 6, 6), with(of(api.OMean, 7), 1), sum(8)),
-			in: halves(2, 3), params: args(apart(3, 2), halves(2), row(7), halves(2, 2))},
-		{l: graphOf(param(0, 2, 3), of(api.OTurn, 0), with(of(api.OSlice, 1), 0, 1, 3), param(2, 1, 2), with(of(api.OJoin, 2, 3), 0), with(of(api.OReshape, 4), 6), of(api.OPow, 5), of(api.ORelu, 5), of(api.OMul, 6, 7), with(of(api.OMax, 5), 0), of(api.OSub, 8, 9), sum(10)),
-			params: args(apart(2, 3), row(7), table(1, 2, 9*one/2, -7*one/2))},
-		{l: graphOf(param(0, 2, 1), param(1, 1, 4), of(api.OMul, 0, 1), input(4), of(api.ODiv, 2, 3), of(api.OSub, 4, 1), of(api.ONeg, 5), with(of(api.OMean, 6), 1), with(of(api.OMean, 7), 0)),
-			in: halves(4), params: args(apart(2, 1), apart(1, 4))},
-		{l: graphOf(param(5, 2, 2), param(5, 2, 2), of(api.OTurn, 1), of(api.OMatmul, 0, 2), param(4, 1, 2), of(api.OMatmul, 4, 3), sum(5), with(of(api.OSlice, 6), 0, 1, 2), param(5, 2, 2), sum(8), sum(9), of(api.OMul, 10, 10), of(api.OAdd, 11, 7)),
-			params: args(row(1), row(2), row(3), row(4), halves(1, 2), apart(2, 2))},
-		{l: graphOf(param(7), of(api.OMul, 0, 0), of(api.OAdd, 1, 0), of(api.OSub, 2, 1), of(api.OAdd, 3, 3), of(api.OAdd, 4, 4), of(api.OAdd, 5, 5), param(7), of(api.OMul, 6, 7), of(api.OSub, 8, 6)),
-			params: append(make([]api.Tensor, 7), cell(5*one/2))},
-	}
-}
-
 // lossOf is what the last node of a graph comes to.
-func lossOf(t *testing.T, c job) int {
+func lossOf(t *testing.T, c sample.Job) int {
 	t.Helper()
-	all, _, err := eval.All(c.l, c.in, c.params)
+	all, _, err := eval.All(c.L, c.In, c.Params)
 	if err != api.OK || len(all[len(all)-1].Data) != 1 {
-		t.Fatalf("%v: %v, %d", c.l, all, err)
+		t.Fatalf("%v: %v, %d", c.L, all, err)
 	}
 	return all[len(all)-1].Data[0]
 }
 
 // moved is a job whose parameter p has a number that is so much more.
-func moved(c job, p, place, more int) job {
-	c.params = slices.Clone(c.params)
-	c.params[p].Data = slices.Clone(c.params[p].Data)
-	c.params[p].Data[place] += more
+func moved(c sample.Job, p, place, more int) sample.Job {
+	c.Params = slices.Clone(c.Params)
+	c.Params[p].Data = slices.Clone(c.Params[p].Data)
+	c.Params[p].Data[place] += more
 	return c
 }
 
 // W3: slopes are how steeply the loss rises with each number, exactly, where that is even, or as even as a square's: from as much less to as much more.
 func TestAllSlopes(t *testing.T) {
-	for _, c := range even() {
-		got, loss, node, err := grad.All(c.l, c.in, c.params)
+	for _, c := range sample.Even() {
+		got, loss, node, err := grad.All(c.L, c.In, c.Params)
 		if len(got) != 8 || loss != lossOf(t, c) || node != -1 || err != api.OK {
-			t.Errorf("%v: %v, %d, %d, %d", c.l, got, loss, node, err)
+			t.Errorf("%v: %v, %d, %d, %d", c.L, got, loss, node, err)
 			continue
 		}
-		for _, p := range graph.Params(c.l) {
-			if !slices.Equal(got[p].Shape, c.params[p].Shape) {
-				t.Errorf("%v: slopes of %d are %v", c.l, p, got[p])
+		for _, p := range graph.Params(c.L) {
+			if !slices.Equal(got[p].Shape, c.Params[p].Shape) {
+				t.Errorf("%v: slopes of %d are %v", c.L, p, got[p])
 			}
 			for place, slope := range got[p].Data {
 				if want := 2 * (lossOf(t, moved(c, p, place, one/4)) - lossOf(t, moved(c, p, place, -one/4))); slope != want {
-					t.Errorf("%v: slope of %d, at %d, is %d; want %d", c.l, p, place, slope, want)
+					t.Errorf("%v: slope of %d, at %d, is %d; want %d", c.L, p, place, slope, want)
 				}
 			}
 		}
 	}
 }
 
-// inserted is l with a node put in.
-func inserted(l []api.Node, place int, n api.Node) []api.Node {
-	longer := append(slices.Clone(l[:place]), n)
-	for _, m := range l[place:] {
-		m.Args = slices.Clone(m.Args)
-		for i, arg := range m.Args {
-			if arg >= place {
-				m.Args[i]++
-			}
-		}
-		longer = append(longer, m)
-	}
-	return longer
-}
-
-// unlive are nodes of those ahead of a place, and of parameters that nobody else names.
-func unlive(l []api.Node, place int) []api.Node {
-	all := graphOf(number(5), param(6, 3))
-	for a := range place {
-		all = append(all, of(api.ONeg, a), of(api.OTurn, a), of(api.OAdd, a, a), of(api.OMul, a, 0))
-		if l[a].Op == api.OParam || l[a].Op == api.OInput {
-			all = append(all, l[a])
-		}
-	}
-	return all
-}
-
 // P15.2: nodes that are not live, at each place, do not matter to slopes, whomever they are reckoned of, but that their parameters are named; nor do ones that can't be turned back.
 func TestAllUnlive(t *testing.T) {
-	for _, c := range even() {
-		want, loss, _, _ := grad.All(c.l, c.in, c.params)
-		params := append(slices.Clone(c.params), make([]api.Tensor, 8-len(c.params))...)
+	for _, c := range sample.Even() {
+		want, loss, _, _ := grad.All(c.L, c.In, c.Params)
+		params := append(slices.Clone(c.Params), make([]api.Tensor, 8-len(c.Params))...)
 		params[6] = row(least, 0, most)
 		named := slices.Clone(want)
 		named[6] = row(0, 0, 0)
-		for place := range c.l {
-			for _, n := range unlive(c.l, place) {
-				l := inserted(c.l, place, n)
+		for place := range c.L {
+			for _, n := range sample.Unlive(c.L, place) {
+				l := sample.Inserted(c.L, place, n)
 				if _, _, err := infer.Shapes(l); err != api.OK {
 					continue
 				}
@@ -708,16 +423,16 @@ func TestAllUnlive(t *testing.T) {
 				if n.Op == api.OParam && n.Nums[0] == 6 {
 					wanted = named
 				}
-				checkAll(t, l, c.in, params, wanted, loss, -1, api.OK)
+				checkAll(t, l, c.In, params, wanted, loss, -1, api.OK)
 				// used by another one that is not live either, it is not live
-				checkAll(t, inserted(l, place+1, of(api.OTurn, place)), c.in, params, wanted, loss, -1, api.OK)
+				checkAll(t, sample.Inserted(l, place+1, of(api.OTurn, place)), c.In, params, wanted, loss, -1, api.OK)
 			}
-			l := inserted(inserted(inserted(c.l, place, number(0)), place+1, number(1)), place+2, of(api.ODiv, place, place+1))
-			checkAll(t, l, c.in, params, want, loss, -1, api.OK)
-			checkAll(t, inserted(l, place+3, of(api.OSqrt, place)), c.in, params, want, loss, -1, api.OK)
+			l := sample.Inserted(sample.Inserted(sample.Inserted(c.L, place, number(0)), place+1, number(1)), place+2, of(api.ODiv, place, place+1))
+			checkAll(t, l, c.In, params, want, loss, -1, api.OK)
+			checkAll(t, sample.Inserted(l, place+3, of(api.OSqrt, place)), c.In, params, want, loss, -1, api.OK)
 			// what can't be reckoned is told, live or not
-			checkWrong(t, inserted(l, place+3, of(api.ODiv, place+1, place)), c.in, params, place+3, api.ErrZero)
-			checkWrong(t, inserted(l, place+3, param(6)), c.in, params, place+3, api.ErrInput)
+			checkWrong(t, sample.Inserted(l, place+3, of(api.ODiv, place+1, place)), c.In, params, place+3, api.ErrZero)
+			checkWrong(t, sample.Inserted(l, place+3, param(6)), c.In, params, place+3, api.ErrInput)
 		}
 	}
 }
@@ -729,7 +444,7 @@ func TestAllShapes(t *testing.T) {
 			x := counted(s, least)
 			params := append(make([]api.Tensor, p), x)
 			checkAll(t, graphOf(param(p, s...), number(3)), cell(1), params, slopes{p: filled(s, 0)}.listed(), 3, -1, api.OK)
-			l := closed(graphOf(param(p, s...)))
+			l := words.Closed(graphOf(param(p, s...)))
 			if len(x.Data) > 1 {
 				params[p] = filled(s, 1)
 			}
@@ -749,56 +464,40 @@ func sumOf(l []int) int {
 
 // P15.1: parameters that a graph does not name do not matter, whatever they are, and how many; nor what is given, if it is given nothing.
 func TestAllUnnamed(t *testing.T) {
-	c := even()[1]
-	want, loss, _, _ := grad.All(c.l, c.in, c.params)
+	c := sample.Even()[1]
+	want, loss, _, _ := grad.All(c.L, c.In, c.Params)
 	for _, other := range append(sample.WrongTensors(), cell(7), row(1, 2)) {
 		for count := 3; count < 20; count++ {
 			others := slices.Repeat(args(other), count)
-			others[0], others[2] = c.params[0], c.params[2]
-			checkAll(t, c.l, other, others, want, loss, -1, api.OK)
+			others[0], others[2] = c.Params[0], c.Params[2]
+			checkAll(t, c.L, other, others, want, loss, -1, api.OK)
 		}
 		checkAll(t, graphOf(number(3), of(api.ONeg, 0)), other, args(other), slopes{}.listed(), -3, -1, api.OK)
 		checkAll(t, graphOf(param(1), of(api.OMul, 0, 0)), other, append(args(other, cell(one)), make([]api.Tensor, 1000)...), slopes{1: cell(2 * one)}.listed(), one, -1, api.OK)
 	}
 }
 
-// roomy is l, whose lists have spare room, with nodes behind it; and these lists with it.
-func roomy(l []api.Node) ([]api.Node, [][]int) {
-	var handed [][]int
-	long := append(slices.Clone(l), of(99), of(98))
-	for node, n := range l {
-		named, nums := append(slices.Clone(n.Args), 7, 7), append(slices.Clone(n.Nums), 9, 9)
-		long[node].Args, long[node].Nums = named[:len(n.Args)], nums[:len(n.Nums)]
-		handed = append(handed, named, nums)
-	}
-	return long, handed
-}
-
 // R4: what is handed in is left as it was, its spare room too, and shares nothing with slopes, nor do these with each other; R5: again they are what they were.
 func TestAllMemory(t *testing.T) {
-	alone := job{l: graphOf(param(0, 1)), params: args(row(5))}
-	apart := job{l: graphOf(param(0, 1), param(1, 1), param(2, 2, 3), param(0, 1), of(api.OAdd, 0, 1)), params: args(row(5), row(6), counted([]int{2, 3}, 0))}
-	same := job{l: graphOf(param(0, 1), param(1, 1), with(of(api.OReshape, 0), 1), of(api.OTurn, 1), of(api.OSub, 2, 3)), params: args(row(5), row(6), cell(0))}
-	for _, c := range append(even(), alone, apart, same) {
-		long, handed := roomy(c.l)
-		in, lists := sample.Roomy(c.in)
-		handed = append(handed, lists...)
-		var params []api.Tensor
-		for _, x := range c.params {
-			x, lists := sample.Roomy(x)
-			params, handed = append(params, x), append(handed, lists...)
+	alone := sample.Job{L: graphOf(param(0, 1)), Params: args(row(5))}
+	apart := sample.Job{L: graphOf(param(0, 1), param(1, 1), param(2, 2, 3), param(0, 1), of(api.OAdd, 0, 1)), Params: args(row(5), row(6), counted([]int{2, 3}, 0))}
+	same := sample.Job{L: graphOf(param(0, 1), param(1, 1), with(of(api.OReshape, 0), 1), of(api.OTurn, 1), of(api.OSub, 2, 3)), Params: args(row(5), row(6), cell(0))}
+	for _, c := range append(sample.Even(), alone, apart, same) {
+		roomy, handed := sample.RoomyJob(c)
+		// with their spare room
+		told := func() string {
+			return fmt.Sprint(roomy.L[:cap(roomy.L)], roomy.In, roomy.Params[:cap(roomy.Params)], handed)
 		}
-		params = append(params, cell(3), cell(4))
-		before := fmt.Sprint(long, in, params, handed)
-		want, loss, _, _ := grad.All(c.l, c.in, c.params)
+		before := told()
+		want, loss, _, _ := grad.All(c.L, c.In, c.Params)
 		for range 10 {
-			got, again, node, err := grad.All(long[:len(c.l)], in, params[:len(c.params)])
+			got, again, node, err := grad.All(roomy.L, roomy.In, roomy.Params)
 			if again != loss || node != -1 || err != api.OK {
-				t.Errorf("%v: %d, %d, %d", c.l, again, node, err)
+				t.Errorf("%v: %d, %d, %d", c.L, again, node, err)
 			}
 			sample.ListsApart(t, sample.ListsOf(got), sample.ListsOf(want))
 			clear(got[:cap(got)])
-			if after := fmt.Sprint(long, in, params, handed); after != before {
+			if after := told(); after != before {
 				t.Errorf("what was handed in is now %s, not %s", after, before)
 			}
 		}

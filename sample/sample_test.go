@@ -351,3 +351,73 @@ func TestFailures(t *testing.T) {
 		}
 	}
 }
+
+// Jobs are of graphs whose shapes fit, and of tensors that may be where a graph names one; what is weighed is as long as its lists ask for.
+func TestJobs(t *testing.T) {
+	chain, errs := Chain(map[int]int{5: 0, 9: 1}, 8)
+	all := append(Even(), UsedBy([]int{1, 2, 3}), NamedBy([]int{1, 2, 3}), NamedTwice([3]int{1, 2, 3}), JoinedTwice([3]int{1, 2, 3}), Both(api.OAdd, 1, 2), chain)
+	for _, c := range all {
+		if _, node, err := infer.Shapes(c.L); err != api.OK {
+			t.Errorf("%v does not fit: %d, %d", c.L, node, err)
+		}
+		if _, given := graph.Inputs(c.L); given && !tensor.Check(c.In) {
+			t.Errorf("%v is given %v", c.L, c.In)
+		}
+		for _, p := range graph.Params(c.L) {
+			if p >= len(c.Params) || !tensor.Check(c.Params[p]) {
+				t.Errorf("%v has no parameter %d", c.L, p)
+			}
+		}
+	}
+	if len(chain.L) != api.MaxNodes || errs[5] != api.ErrZero || errs[9] != api.ErrOver || slices.Contains(graph.Live(chain.L), 8) {
+		t.Errorf("chain is %v, with %v", chain.L, errs)
+	}
+	if len(UsedBy([]int{1, 2, 3}).L) != 9 || len(NamedBy([]int{1, 2, 3}).L) != 11 || len(Threes()) != 125 {
+		t.Errorf("%v, %v, %d", UsedBy([]int{1, 2, 3}).L, NamedBy([]int{1, 2, 3}).L, len(Threes()))
+	}
+	for _, f := range Turnings(0) {
+		if _, _, err := infer.Shapes(Graph(Param(0), Number(1), f.N)); err != api.OK || f.Err == api.OK {
+			t.Errorf("%v: %d, %d", f.N, err, f.Err)
+		}
+	}
+}
+
+// A node that is put in is used by none, and is not live, and leaves the others as they were.
+func TestInserted(t *testing.T) {
+	for _, c := range Even() {
+		for place := range c.L {
+			before := fmt.Sprint(c.L)
+			l := Inserted(c.L, place, Number(5))
+			if fmt.Sprint(c.L) != before || len(l) != len(c.L)+1 || !graph.Check(l) || len(graph.Uses(l, place)) > 0 || len(graph.Live(l)) != len(graph.Live(c.L)) {
+				t.Errorf("%s, with one put in at %d: %v", before, place, l)
+			}
+			for _, n := range Unlive(c.L, place) {
+				if !graph.Check(Inserted(c.L, place, n)) {
+					t.Errorf("%v may not be put in at %d of %v", n, place, c.L)
+				}
+			}
+		}
+	}
+}
+
+// A roomy job is the same one, in the lists beside it, and not in its own; all its lists have spare room.
+func TestRoomyJob(t *testing.T) {
+	for _, c := range Even() {
+		before := fmt.Sprint(c)
+		got, lists := RoomyJob(c)
+		if fmt.Sprint(got.L, got.Params) != fmt.Sprint(c.L, c.Params) || !Same(got.In, c.In) || cap(got.L) == len(got.L) || cap(got.Params) == len(got.Params) || len(lists) != 2*(len(c.L)+1+len(c.Params)) {
+			t.Errorf("%s is %v", before, got)
+		}
+		for _, n := range got.L {
+			if cap(n.Args) == len(n.Args) || cap(n.Nums) == len(n.Nums) {
+				t.Errorf("%v has no spare room", n)
+			}
+		}
+		for _, l := range lists {
+			Overwrite(l)
+		}
+		if fmt.Sprint(c) != before || graph.Check(got.L) {
+			t.Errorf("written over, %v is %v, and was %s", c, got, before)
+		}
+	}
+}
