@@ -1,4 +1,4 @@
-// Package sample has the lists, shapes, tensors, bytes and nodes that the layers' tests are made of, and holds answers against each other.
+// Package sample has the lists, shapes, tensors, bytes, nodes and versions that the layers' tests are made of, and holds answers against each other.
 package sample
 
 import (
